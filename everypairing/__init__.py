@@ -1,0 +1,1 @@
+"""Webs, and what all their pairings have in common."""

@@ -1,0 +1,77 @@
+"""The functions of the interface that have landed: their parameters, and arguments that fit."""
+
+from everypairing import barriers, ears_odd, greatest, lots, shares_of_ties, webs
+
+MODULES = (webs, greatest, lots, shares_of_ties, barriers, ears_odd)
+
+# As the interface lists them; a default value stands behind "=".
+INTERFACE = {
+    webs: """
+        is_web(value) is_pairing(web, value) mate(web, pairing, place) alone(web, pairing)
+        pieces(web, lot=()) odd_pieces(web, lot=()) inner(web, lot) renamed(web, row)
+        beside(web, other_web) with_tie(web, tie) less_tie(web, tie) mirrored(web)
+        web_text(web) web_told(text)
+    """,
+    greatest: """
+        greatest_size(web) spare(web) greatest_pairing(web) is_greatest(web, pairing)
+        longer_row(web, pairing) is_longer_row(web, pairing, value)
+        lengthened(web, pairing, row) completed(web, pairing) excess(web, lot) spare_lot(web)
+    """,
+    lots: "lots(web) open_pieces(web) leaving(web, place) held(web, pairing)",
+    shares_of_ties: """
+        fixed_ties(web) loose_ties(web) idle_ties(web) tie_kind(web, tie)
+        kind_between(web, place, other_place) greatest_with(web, tie) greatest_avoiding(web, tie)
+        lean_web(web) lean_pieces(web) is_covered(web) tie_counts(web) tie_shares(web)
+        alone_shares(web) share_of(web, ties)
+    """,
+    barriers: """
+        is_barrier(web, lot) barriers(web) barrier_count(web) barriers_over(web, lot)
+        greatest_barriers(web) is_dear(web, lot) barrier_over(web, lot) barrier_core(web)
+        place_classes(web) pieces_left(web, lot) met_pieces(web, lot, pairing)
+    """,
+    ears_odd: """
+        is_near_full(web) near_pairing(web, place) near_counts(web) hindrance(web) lumps(web)
+        odd_ears(web, place) is_odd_ears(web, place, value) ears_along(web, pairing)
+        is_ears_along(web, pairing, value) near_by_ears(web, place, ears, goal)
+    """,
+}
+
+FIVE = (5, ((0, 1), (0, 4), (1, 2), (2, 3), (3, 4)))
+PATH = (4, ((0, 1), (1, 2), (2, 3)))
+STAR = (4, ((0, 1), (0, 2), (0, 3)))
+EARS = [(0, 1, 2, 3, 4, 0)]
+
+# The usual fitting argument of a parameter, for the web FIVE, and those that differ.
+FITTING = {
+    "web": FIVE, "other_web": PATH, "value": None, "pairing": ((0, 1), (2, 3)), "place": 0,
+    "other_place": 1, "lot": (0, 2), "tie": (0, 1), "ties": ((0, 1), (2, 3)), "ears": EARS,
+    "goal": 2, "text": "d:ab,bc", "row": (1, 2, 3, 4, 0),
+}
+SPECIAL = {
+    "with_tie": {"tie": (0, 2)},
+    "lengthened": {"pairing": ((1, 2),), "row": (3, 4)},
+    "place_classes": {"web": PATH},
+    "pieces_left": {"web": STAR, "lot": (0,)},
+    "met_pieces": {"web": STAR, "lot": (0,), "pairing": ((0, 2),)},
+}
+
+
+def listed():
+    """The tuples (module, name, the words of the parameters) of all functions."""
+    found = []
+    for module, text in INTERFACE.items():
+        for entry in text.replace("\n", " ").replace(") ", ")|").split("|"):
+            if entry.strip():
+                name, rest = entry.strip().split("(", 1)
+                found.append((module, name, rest[:-1].split(", ")))
+    return found
+
+
+def calls():
+    """The tuples (function, names of its parameters, fitting arguments)."""
+    found = []
+    for module, name, words in listed():
+        names = [word.split("=")[0] for word in words]
+        fitting = dict(FITTING, **SPECIAL.get(name, {}))
+        found.append((getattr(module, name), names, [fitting[word] for word in names]))
+    return found

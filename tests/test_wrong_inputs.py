@@ -1,0 +1,175 @@
+import copy
+import unittest
+from itertools import combinations
+
+from tests import functions
+from tests.functions import EARS, FIVE, PATH, STAR
+from tests.test_webs import NO_WEBS
+from everypairing import barriers, ears_odd, errors, greatest, lots, webs
+
+# What no place, lot, tie .. is, in any web of some places; [], None and the like fit nowhere.
+ODD = [None, True, False, "", "ab", [], {}, [0], [0, 1], [(0, 1)], 1.0, b"a"]
+NO_PLACE = ODD + [-1, 5, 12, 10 ** 80, (), (0,), ((0, 1),)]
+NO_LOT = ODD + [0, (5,), (-1,), (0, 0), (1, 0), (False,), (0, True), ("0",), (None,), ([0],),
+                ((0,),), ((0, 1),), (0, 1, 2, 3, 4, 5), 10 ** 80]
+NO_TIES = ODD + [0, (0, 1), ((1, 0),), ((0, 0),), ((0, 1), (0, 1)), ((2, 3), (0, 1)), ((0, 7),),
+                 ((0, 3),), ((False, 1),), ((0, True),), ([0, 1],), ((0, 1, 2),), ("ab",), (None,)]
+WRONG = {
+    "web": [value for value in NO_WEBS if not isinstance(value, dict)],
+    "other_web": NO_WEBS,
+    "pairing": NO_TIES + [((0, 1), (1, 2))],
+    "place": NO_PLACE,
+    "goal": NO_PLACE,
+    "other_place": NO_PLACE + [0],
+    "lot": NO_LOT,
+    "tie": ODD + [0, (), (0,), (1, 0), (0, 0), (0, 3), (0, 9), (0, 1, 2), ("a", "b"), (0, True),
+                  (False, 1), (None, 1), ((0,), 1), ((0, 1),)],
+    "ties": NO_TIES,
+    "row": ODD + [0, (), (0,), (0, 1, 2), (0, 0, 1, 2, 3), (0, 1, 2, 3, 5), (False, 1, 2, 3, 4),
+                  (0, True, 2, 3, 4), ("a", 1, 2, 3, 4), ([0], 1, 2, 3, 4)],
+    "ears": ODD + [0, (), tuple(EARS), [()], [(0, 1)], EARS + EARS, [list(EARS[0])]],
+    "text": [None, True, 0, [], (), ("d:ab",), b"d:", {}, "", "x", "d", "d:x", "d:ab,", "d:ab,ab"],
+}
+ERRORS = {
+    "web": "InvalidWeb", "other_web": "InvalidWeb", "pairing": "InvalidPairing",
+    "place": "InvalidPlace", "goal": "InvalidPlace", "other_place": "InvalidPlace",
+    "lot": "InvalidLot", "tie": "InvalidTie", "ties": "InvalidTies", "row": "InvalidRow",
+    "ears": "InvalidEars", "text": "InvalidText",
+}
+
+
+def wrong_for(function, name):
+    """Some values are wrong for a parameter of some functions and right for others."""
+    values = list(WRONG[name])
+    if name == "tie" and function.__name__ == "with_tie":
+        values = [value for value in values if value != (0, 3)] + [(0, 1), (3, 4)]
+    if name == "lot" and function.__name__ == "inner":
+        values.append(())
+    if function in (barriers.pieces_left, barriers.met_pieces) and name in ("lot", "pairing"):
+        values = [value for value in values if value != ((0, 3),)]
+    if name == "pairing" and function is ears_odd.ears_along:
+        values += [(), ((0, 1),)]
+    return values
+
+
+class WrongInputs(unittest.TestCase):
+    def raised(self, function, arguments):
+        before = copy.deepcopy(arguments)
+        with self.assertRaises(errors.PairError, msg=(function, arguments)) as caught:
+            function(*arguments)
+        self.assertEqual(repr(arguments), repr(before))
+        return type(caught.exception).__name__
+
+    def test_each_wrong_parameter(self):
+        for function, names, fitting in functions.calls():
+            for at, name in enumerate(names):
+                if name == "value":
+                    continue
+                for value in wrong_for(function, name):
+                    arguments = fitting[:at] + [value] + fitting[at + 1:]
+                    self.assertEqual(self.raised(function, arguments), ERRORS[name],
+                                     (function.__name__, arguments))
+
+    def test_two_wrong_ones_at_once(self):
+        for function, names, fitting in functions.calls():
+            spots = [at for at, name in enumerate(names) if name != "value"]
+            for first, second in combinations(spots, 2):
+                for value in wrong_for(function, names[first])[:8]:
+                    for other in wrong_for(function, names[second])[:8]:
+                        arguments = list(fitting)
+                        arguments[first] = value
+                        arguments[second] = other
+                        self.assertEqual(self.raised(function, arguments), ERRORS[names[first]])
+
+    def test_any_value_where_any_may_be_passed(self):
+        deep = []
+        for _ in range(39):
+            deep = [deep, (0,)]
+        values = NO_WEBS + NO_TIES + NO_LOT + NO_PLACE + [deep, tuple(range(7999)), "a" * 20000]
+        for function, names, fitting in functions.calls():
+            if names[-1] == "value":
+                for value in values:
+                    self.assertIs(function(*(fitting[:-1] + [value])) in (True, False), True)
+        for value in values:
+            for place in (0, 4):
+                if value != EARS:
+                    with self.assertRaises(errors.InvalidEars):
+                        ears_odd.near_by_ears(FIVE, place, value, value)
+        # [] is a building of a web of one place, () a pairing and a lot.
+        self.assertIs(ears_odd.is_odd_ears((1, ()), 0, []), True)
+
+    def test_errors_of_the_points_come_last(self):
+        cases = [
+            (webs.beside, [(9, ()), (13, ())], "InvalidWeb"),
+            (webs.beside, [(9, ()), (4, ())], "TooMany"),
+            (barriers.barriers, [(13, ())], "InvalidWeb"),
+            (barriers.barriers, [(9, ())], "TooMany"),
+            (barriers.place_classes, [(0, ())], "InvalidWeb"),
+            (barriers.place_classes, [STAR], "NotFull"),
+            (barriers.pieces_left, [PATH, (0, 4)], "InvalidLot"),
+            (barriers.pieces_left, [PATH, (0, 3)], "NotBarrier"),
+            (barriers.met_pieces, [PATH, (0, 3), ((0, 2),)], "InvalidPairing"),
+            (barriers.met_pieces, [PATH, (0, 4), ((0, 2),)], "InvalidLot"),
+            (barriers.met_pieces, [PATH, (0, 3), ((0, 1),)], "NotBarrier"),
+            (barriers.met_pieces, [PATH, (0, 2), ((0, 1),)], "NotGreatest"),
+            (lots.held, [PATH, ((0, 3),)], "InvalidPairing"),
+            (lots.held, [PATH, ()], "NotGreatest"),
+            (ears_odd.odd_ears, [PATH, 4], "InvalidPlace"),
+            (ears_odd.odd_ears, [PATH, 0], "NotBuilt"),
+            (ears_odd.ears_along, [PATH, ((0, 1),)], "InvalidPairing"),
+            (ears_odd.ears_along, [(3, ((0, 1),)), ()], "InvalidPairing"),
+            (ears_odd.ears_along, [(3, ((0, 1),)), ((0, 1),)], "NotBuilt"),
+            (ears_odd.near_by_ears, [PATH, 0, [], 9], "InvalidEars"),
+            (ears_odd.near_by_ears, [FIVE, 0, EARS, 9], "InvalidPlace"),
+            (greatest.lengthened, [PATH, ((0, 2),), ()], "InvalidPairing"),
+            (greatest.lengthened, [PATH, ((0, 1),), ()], "InvalidRow"),
+        ]
+        for function, arguments, error in cases:
+            self.assertEqual(self.raised(function, arguments), error, (function, arguments))
+
+    def test_the_fields(self):
+        for function, arguments, field, value in [
+            (barriers.pieces_left, [PATH, (0, 3)], "excess", -2),
+            (barriers.met_pieces, [PATH, (0, 1, 2, 3), ()], "excess", -4),
+            (ears_odd.odd_ears, [PATH, 0], "lot", (0,)),
+            (barriers.barriers, [(9, ())], "count", 8),
+            (webs.beside, [(12, ()), (1, ())], "count", 12),
+            (webs.web_told, [7], "index", 0),
+        ]:
+            with self.assertRaises(errors.PairError) as caught:
+                function(*arguments)
+            self.assertEqual(getattr(caught.exception, field), value)
+
+
+def spoil(value):
+    """Changes every list in the value."""
+    if isinstance(value, list):
+        value.append("spoilt")
+        value.insert(0, None)
+    if isinstance(value, (list, tuple)):
+        for part in value:
+            spoil(part)
+
+
+class Results(unittest.TestCase):
+    def test_nothing_passed_is_changed(self):
+        for function, _, arguments in functions.calls():
+            before = copy.deepcopy(arguments)
+            function(*arguments)
+            self.assertEqual(repr(arguments), repr(before))
+
+    def test_lists_are_new(self):
+        for function, _, arguments in functions.calls():
+            told = function(*arguments)
+            before = repr(told)
+            spoil(told)
+            self.assertEqual(repr(function(*arguments)), before, function)
+
+    def test_equal_arguments_equal_results(self):
+        for function, _, arguments in functions.calls():
+            told = repr(function(*arguments))
+            self.assertEqual(repr(function(*copy.deepcopy(arguments))), told)
+
+
+if __name__ == "__main__":
+    unittest.main()
