@@ -124,7 +124,7 @@ class Small(unittest.TestCase):
 
     def test_all_lists_of_ears(self):
         """Each building of some webs is one, and along just the pairings that it goes along."""
-        for web in (THREE, FIVE, plain.BOW, plain.all_tied(4), plain.line(3)):
+        for web in (THREE, FIVE, plain.BOW, plain.all_tied(4), plain.line(3), Bent.web):
             for place in range(web[0]):
                 found = joined_ears(web, place)
                 self.assertEqual(found != [], plain.is_near_full(web))
@@ -135,6 +135,17 @@ class Small(unittest.TestCase):
                         along = plain.alone(web, pairing) == (place,) and plain.goes_along(
                             pairing, ears)
                         self.assertIs(module.is_ears_along(web, pairing, ears), along)
+
+    def test_along_one_pairing_only(self):
+        web = plain.all_tied(5)
+        ears = module.ears_along(web, ((1, 2), (3, 4)))
+        for pairing in plain.pairings_leaving(web, 0):
+            self.assertIs(module.is_ears_along(web, pairing, ears), plain.goes_along(pairing, ears))
+        for place in range(5):
+            for pairing in plain.pairings_leaving(web, place):
+                for other in plain.pairings_leaving(web, place):
+                    ears = module.ears_along(web, pairing)
+                    self.assertIs(module.is_ears_along(web, other, ears), pairing == other)
 
     def test_told_from_either_end(self):
         for web in near_full_webs(68, 3):
@@ -242,6 +253,34 @@ class Bent(unittest.TestCase):
                     swapped[at], swapped[other] = swapped[other], swapped[at]
                     self.assertIs(module.is_odd_ears(web, 0, swapped),
                                   plain.is_building(web, 0, swapped))
+
+    def test_what_only_one_rule_excludes(self):
+        with_one_more = lambda web: (web[0] + 1, web[1])
+        triangle_and_square = (6, ((0, 1), (0, 2), (0, 3), (0, 5), (1, 2), (3, 4), (4, 5)))
+        round_on_the_way = (6, ((0, 1), (0, 5), (1, 2), (1, 4), (1, 5), (2, 3), (3, 4)))
+        for web, place, ears in [
+            # A place that no ear has.
+            ((2, ()), 0, []), ((4, ((0, 1), (0, 2), (1, 2))), 0, [(0, 1, 2, 0)]),
+            # An even ear.
+            (plain.ring(4), 0, [(0, 1, 2, 3, 0)]), (plain.ring(4), 0, [(0, 1, 2, 3, 0), ()]),
+            (plain.BOW, 0, [(0, 1, 2, 0), (2, 3, 4), (4, 2)]),
+            ((4, ((0, 1), (0, 2), (0, 3), (1, 2), (2, 3))), 0, [(0, 1, 2, 0), (0, 3, 2)]),
+            ((3, ((0, 1),)), 0, [(0, 1, 0)]), ((2, ((0, 1),)), 0, [(0, 1, 0, 1)]),
+            # An inner place that is there, or twice in the ear, in a web with an untied place.
+            (with_one_more(triangle_and_square), 0, [(0, 1, 2, 0, 3, 4, 5, 0)]),
+            (with_one_more(round_on_the_way), 0, [(0, 1, 2, 3, 4, 1, 5, 0)]),
+            (triangle_and_square, 0, [(0, 1, 2, 0, 3, 4, 5, 0)]),
+            (round_on_the_way, 0, [(0, 1, 2, 3, 4, 1, 5, 0)]),
+            (with_one_more(triangle_and_square), 0, [(0, 3, 4, 5, 0, 1, 2, 0)]),
+            (with_one_more(round_on_the_way), 0, [(0, 5, 1, 2, 3, 4, 1, 0)]),
+            # An end that is not there yet.
+            (plain.line(2), 0, [(0, 1)]), (plain.line(2), 0, [(1, 0)]),
+            (plain.line(4), 0, [(0, 1, 2, 3)]), (plain.line(4), 0, [(3, 2, 1, 0)]),
+        ]:
+            self.assertFalse(plain.is_building(web, place, ears))
+            self.assertIs(module.is_odd_ears(web, place, ears), False, (web, ears))
+            with self.assertRaises(InvalidEars):
+                module.near_by_ears(web, place, ears, place)
 
     def test_along_needs_one_place_alone(self):
         for pairing in ((), ((0, 1),), ((2, 4),)):

@@ -35,8 +35,9 @@ class Speed(unittest.TestCase):
                 start = time.monotonic()
                 try:
                     function(*arguments)
-                except errors.PairError:
-                    pass
+                except errors.PairError as error:
+                    bounded = function.__name__ in ("barriers", "beside")
+                    self.assertEqual(isinstance(error, errors.TooMany), bounded)
                 self.assertLess(time.monotonic() - start, SECONDS, (function.__name__, web))
 
 
