@@ -42,10 +42,13 @@ def fits_place(n, value):
 
 def fits_ends(n, value):
     """Whether the value could be a tie of a web of n places."""
-    if not is_tuple(value) or len(value) != 2:
+    # Asked for each tie of each web that is passed, so the classes are looked up here.
+    if value.__class__.__name__ != "tuple" or len(value) != 2:
         return False
     x, y = value
-    return fits_place(n, x) and fits_place(n, y) and x < y
+    if x.__class__.__name__ != "int" or y.__class__.__name__ != "int":
+        return False
+    return 0 <= x < y < n
 
 
 def fits_lot(n, value):

@@ -1,20 +1,26 @@
 """Near-full webs: hindrances, lumps, and how they are built of odd ears."""
 
+from itertools import combinations
+
 from everypairing.checks import check_pairing, check_place, check_web
 from everypairing.checks import fits_place, is_list, is_tuple
 from everypairing.errors import InvalidEars, InvalidPairing, NotBuilt
-from everypairing.masks import all_places, greatest_masks, in_lot_order
-from everypairing.masks import near_masks, piece_mask, places_in
-from everypairing.rows import mates_in, tie_of, ties_along, walked
-from everypairing.tables import count_table, excess_table, first_greatest, size_table, spare_of
+from everypairing.finding import first_full, greatest_mates, grown, spare_of, ties_of
+from everypairing.masks import all_places, in_lot_order, mask_of
+from everypairing.masks import near_masks, odd_piece_masks, piece_masks, places_in
+from everypairing.parts import lean_masks, pairing_leaving
+from everypairing.rows import mates_in, tie_of, ties_along
+from everypairing.tables import tallies
 from everypairing.webs import alone
 
 
 def is_near_full(web):
     """Whether for each place some pairing leaves just this place alone."""
     check_web(web)
-    sizes = size_table(near_masks(web))
-    return all([_pairs_without(sizes, place) for place in range(web[0])])
+    everything = all_places(web)
+    mates, ways = greatest_mates(near_masks(web), everything)
+    # With one place alone, and all open, the web is joined, since each piece has an open place.
+    return spare_of(everything, mates) == 1 and mask_of(ways) == everything
 
 
 def near_pairing(web, place):
@@ -22,42 +28,44 @@ def near_pairing(web, place):
     check_web(web)
     check_place(web, place)
     near = near_masks(web)
-    sizes = size_table(near)
-    if not _pairs_without(sizes, place):
+    mates = pairing_leaving(near, all_places(web), place)
+    if mates is None or spare_of(all_places(web), mates) > 1:
         return None
-    return first_greatest(near, sizes, all_places(web) - (1 << place))
+    return first_full(near, all_places(web) - (1 << place), mates)
 
 
 def near_counts(web):
     """The tuple of the numbers of the pairings that leave just one place alone, by the place."""
     check_web(web)
-    near = near_masks(web)
-    sizes = size_table(near)
-    counts = count_table(near, sizes)
-    everything = all_places(web)
-    return tuple([
-        counts[everything - (1 << place)] if _pairs_without(sizes, place) else 0
-        for place in range(web[0])
-    ])
+    mates, opened, _, lean = lean_masks(near_masks(web))
+    if spare_of(all_places(web), mates) != 1:
+        return (0,) * web[0]
+    return tuple(tallies(lean, all_places(web), opened, len(ties_of(mates)))[2])
 
 
 def hindrance(web):
     """The first hindrance in lot order; None without one."""
     check_web(web)
-    excesses = excess_table(web)
-    found = [mask for mask in range(1, len(excesses)) if excesses[mask] >= 0]
-    if not found:
+    if is_near_full(web):
         return None
-    return in_lot_order([places_in(mask) for mask in found])[0]
+    near = near_masks(web)
+    # If n is even, an odd number of places, so an odd piece, is left without the place 0.
+    for size in range(1, web[0] + 1):
+        for lot in combinations(range(web[0]), size):
+            rest = all_places(web) - mask_of(lot)
+            if len(odd_piece_masks(near, rest)) >= size:
+                return lot
+    return None
 
 
 def lumps(web):
     """The list of the lumps in lot order."""
     check_web(web)
     near = near_masks(web)
-    joined = [False] + [_is_joined(near, mask) for mask in range(1, 1 << web[0])]
-    firm = [joined[mask] and _stays_joined(joined, mask) for mask in range(len(joined))]
-    return in_lot_order([places_in(mask) for mask in greatest_masks(firm)])
+    found = []
+    for piece in piece_masks(near, all_places(web)):
+        found.extend(_lumps_of_joined(near, piece))
+    return in_lot_order([places_in(mask) for mask in found])
 
 
 def odd_ears(web, place):
@@ -112,20 +120,15 @@ def near_by_ears(web, place, ears, goal):
     return tuple(sorted(ties))
 
 
-def _pairs_without(sizes, place):
-    """Whether all places but this one can be paired among one another."""
-    return spare_of(sizes, len(sizes) - 1 - (1 << place)) == 0
-
-
-def _is_joined(near, mask):
-    """Whether the lot of the mask, which is not (), is joined."""
-    return piece_mask(near, mask, mask.bit_length() - 1) == mask
-
-
-def _stays_joined(joined, mask):
-    """Whether the lot is of one place, or joined whichever one of its places is taken out."""
-    places = places_in(mask)
-    return len(places) == 1 or all([joined[mask - (1 << place)] for place in places])
+def _lumps_of_joined(near, mask):
+    """The list of the masks of the lumps of a joined lot."""
+    for place in places_in(mask):
+        parts = piece_masks(near, mask - (1 << place))
+        if len(parts) > 1:
+            # No lump has places of two of the parts, so each is within one part and the place.
+            inside = [_lumps_of_joined(near, part | 1 << place) for part in parts]
+            return [lump for lumps_of_part in inside for lump in lumps_of_part]
+    return [mask]
 
 
 def _check_near_full(web):
@@ -137,18 +140,14 @@ def _check_near_full(web):
 
 def _built_along(web, pairing, place):
     """A building of a near-full web along the pairing that leaves just the place alone."""
-    near = near_masks(web)
-    sizes = size_table(near)
-    mates = mates_in(web[0], pairing)
+    ways = grown(near_masks(web), all_places(web), mates_in(web[0], pairing), place)[1]
     there = [place]
     ears = []
     while len(there) < web[0]:
         inside, outside = _leading_out(web, there)
-        rest = all_places(web) - (1 << outside)
-        other_mates = mates_in(web[0], first_greatest(near, sizes, rest))
-        # No tie of the pairing leads out of what is there, so the walk, which ends at the place,
-        # comes there behind an even number of ties, and its inner places are mates.
-        ear = [inside] + _until(walked(outside, mates, other_mates), there)
+        # No tie of the pairing leads out of what is there, so the way back from the place outside
+        # comes there behind an even number of ties, and the inner places are mates.
+        ear = [inside] + _until(ways[outside][::-1], there)
         ears.append(tuple(ear))
         there = there + ear[1:-1]
     used = [tie for ear in ears for tie in ties_along(ear)]
@@ -164,7 +163,7 @@ def _leading_out(web, there):
 def _until(row, there):
     """The row up to the first place that is there."""
     first = [at for at in range(len(row)) if row[at] in there][0]
-    return row[:first + 1]
+    return list(row[:first + 1])
 
 
 def _is_building(web, place, value):

@@ -3,28 +3,29 @@
 from everypairing.checks import check_lot, check_pairing, check_web
 from everypairing.checks import fits_place, is_tuple
 from everypairing.errors import InvalidRow
+from everypairing.finding import greatest_mates, grown, paired_whole, spare_of, ties_of
 from everypairing.masks import all_places, mask_of, near_masks, odd_piece_masks, places_in
-from everypairing.rows import exchanged, mates_in, ties_along, walked
-from everypairing.tables import first_greatest, holding_mask, open_mask, size_table, spare_of
+from everypairing.parts import three_masks
+from everypairing.rows import exchanged, mates_in, ties_along
 
 
 def greatest_size(web):
     """The number of ties of a greatest pairing."""
     check_web(web)
-    return size_table(near_masks(web))[-1]
+    return (web[0] - spare(web)) // 2
 
 
 def spare(web):
     """The number of places that are alone in a greatest pairing."""
     check_web(web)
-    return spare_of(size_table(near_masks(web)), all_places(web))
+    everything = all_places(web)
+    return spare_of(everything, greatest_mates(near_masks(web), everything)[0])
 
 
 def greatest_pairing(web):
-    """The first greatest pairing, as Python orders tuples."""
+    """A greatest pairing."""
     check_web(web)
-    near = near_masks(web)
-    return first_greatest(near, size_table(near), all_places(web))
+    return ties_of(greatest_mates(near_masks(web), all_places(web))[0])
 
 
 def is_greatest(web, pairing):
@@ -38,14 +39,15 @@ def longer_row(web, pairing):
     """A longer row of the pairing; None if there is none."""
     check_web(web)
     check_pairing(web, pairing)
+    near = near_masks(web)
     mates = mates_in(web[0], pairing)
-    greatest_mates = mates_in(web[0], greatest_pairing(web))
+    mask = all_places(web)
     for place in range(web[0]):
         if mates[place] is None:
-            # Of an even number of places, the walk begins and ends with ties of the greatest one.
-            row = walked(place, greatest_mates, mates)
-            if len(row) % 2 == 0:
-                return tuple(row)
+            row, _, met = grown(near, mask, mates, place)
+            if row is not None:
+                return row
+            mask &= ~met
     return None
 
 
@@ -80,11 +82,8 @@ def completed(web, pairing):
     """A greatest pairing in which no place is alone that is not alone in the pairing."""
     check_web(web)
     check_pairing(web, pairing)
-    row = longer_row(web, pairing)
-    while row is not None:
-        pairing = exchanged(pairing, ties_along(row))
-        row = longer_row(web, pairing)
-    return pairing
+    mates = mates_in(web[0], pairing)
+    return ties_of(paired_whole(near_masks(web), all_places(web), mates)[0])
 
 
 def excess(web, lot):
@@ -98,5 +97,4 @@ def excess(web, lot):
 def spare_lot(web):
     """A lot whose excess is the spare: that of the holding places."""
     check_web(web)
-    near = near_masks(web)
-    return places_in(holding_mask(near, open_mask(size_table(near))))
+    return places_in(three_masks(near_masks(web), all_places(web))[2])

@@ -3,18 +3,16 @@
 from everypairing.checks import check_pairing, check_place, check_web
 from everypairing.errors import NotGreatest
 from everypairing.greatest import longer_row
+from everypairing.finding import ties_of
 from everypairing.masks import all_places, near_masks, piece_masks, places_in
+from everypairing.parts import pairing_leaving, three_masks
 from everypairing.rows import mates_in
-from everypairing.tables import first_greatest, holding_mask, open_mask, size_table
 
 
 def lots(web):
     """The tuple of the lots of the open, the holding and the closed places."""
     check_web(web)
-    near = near_masks(web)
-    opened = open_mask(size_table(near))
-    holding = holding_mask(near, opened)
-    closed = all_places(web) - opened - holding
+    _, opened, holding, closed = three_masks(near_masks(web), all_places(web))
     return (places_in(opened), places_in(holding), places_in(closed))
 
 
@@ -22,7 +20,7 @@ def open_pieces(web):
     """The ascending list of the pieces of the web of only the open places."""
     check_web(web)
     near = near_masks(web)
-    opened = open_mask(size_table(near))
+    opened = three_masks(near, all_places(web))[1]
     return [places_in(piece) for piece in piece_masks(near, opened)]
 
 
@@ -30,12 +28,8 @@ def leaving(web, place):
     """A greatest pairing that leaves the place alone; None if it is not open."""
     check_web(web)
     check_place(web, place)
-    near = near_masks(web)
-    sizes = size_table(near)
-    rest = all_places(web) - (1 << place)
-    if sizes[rest] < sizes[all_places(web)]:
-        return None
-    return first_greatest(near, sizes, rest)
+    mates = pairing_leaving(near_masks(web), all_places(web), place)
+    return None if mates is None else ties_of(mates)
 
 
 def held(web, pairing):

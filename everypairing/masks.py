@@ -53,8 +53,11 @@ def piece_masks(near, mask):
 
 
 def is_odd(mask):
-    """Whether the number of places of the mask is odd."""
-    return len(places_in(mask)) % 2 == 1
+    """Whether the number of places of the mask, of up to 12, is odd."""
+    folded = mask ^ mask >> 8
+    folded ^= folded >> 4
+    folded ^= folded >> 2
+    return (folded ^ folded >> 1) & 1 == 1
 
 
 def odd_piece_masks(near, mask):
@@ -62,17 +65,28 @@ def odd_piece_masks(near, mask):
     return [piece for piece in piece_masks(near, mask) if is_odd(piece)]
 
 
-def greatest_masks(marked):
-    """The masks that are marked and contained in no other marked one.
+def near_any(near, mask):
+    """The places that are tied with one of the mask."""
+    found = 0
+    for place in places_in(mask):
+        found |= near[place]
+    return found
 
-    marked is a list that has at each mask of the places whether it is marked.
-    """
-    above = [False] * len(marked)
-    bits = [1 << place for place in range((len(marked) - 1).bit_length())]
-    for mask in reversed(range(len(marked))):
-        wider = [mask | bit for bit in bits if not mask & bit]
-        above[mask] = any([marked[other] or above[other] for other in wider])
-    return [mask for mask in range(len(marked)) if marked[mask] and not above[mask]]
+
+def sub_masks(mask):
+    """The list of the masks of all lots of places of the mask, the mask itself first."""
+    found = [mask]
+    while found[-1]:
+        found.append((found[-1] - 1) & mask)
+    return found
+
+
+def joined_choices(choices):
+    """The list of the masks that have one mask out of each list of choices."""
+    found = [0]
+    for masks in choices:
+        found = [mask | other for mask in found for other in masks]
+    return found
 
 
 def in_lot_order(lots):

@@ -23,19 +23,6 @@ def mates_in(n, pairing):
     return mates
 
 
-def walked(start, mates, other_mates):
-    """The places from start on, along ties of the two pairings by turns, the first one first.
-
-    start is alone in the other pairing, so that the walk cannot run in a round.
-    """
-    row = [start]
-    turn, other_turn = mates, other_mates
-    while turn[row[-1]] is not None:
-        row.append(turn[row[-1]])
-        turn, other_turn = other_turn, turn
-    return row
-
-
 def exchanged(pairing, ties):
     """The pairing with those of the ties put in that it lacks, and the others taken out."""
     kept = [tie for tie in pairing if tie not in ties]

@@ -1,10 +1,12 @@
 """Ties that stand in all, in some or in none of the greatest pairings, and their shares."""
 
 from everypairing.checks import check_other_place, check_place, check_tie, check_ties, check_web
-from everypairing.masks import all_places, mask_of, near_masks
+from everypairing.finding import freed, greatest_mates, paired_whole, spare_of, ties_of
+from everypairing.masks import all_places, mask_of, near_masks, piece_mask
+from everypairing.parts import lean_masks
 from everypairing.ratios import ratio
 from everypairing.rows import tie_of
-from everypairing.tables import count_table, first_greatest, size_table
+from everypairing.tables import packed_total, tallies, told_for
 from everypairing.webs import less_tie, pieces, with_tie
 
 
@@ -48,30 +50,35 @@ def greatest_with(web, tie):
     check_web(web)
     check_tie(web, tie)
     near = near_masks(web)
-    sizes = size_table(near)
-    rest = all_places(web) - mask_of(tie)
-    if sizes[rest] + 1 < sizes[all_places(web)]:
+    everything = all_places(web)
+    mates = greatest_mates(near, everything)[0]
+    rest = everything - mask_of(tie)
+    found = paired_whole(near, rest, freed(mates, tie))[0]
+    if spare_of(rest, found) > spare_of(everything, mates):
         return None
-    return tuple(sorted(first_greatest(near, sizes, rest) + (tie,)))
+    return tuple(sorted(ties_of(found) + (tie,)))
 
 
 def greatest_avoiding(web, tie):
     """A greatest pairing that does not have the tie; None if there is none."""
     check_web(web)
     check_tie(web, tie)
-    near = near_masks(less_tie(web, tie))
-    sizes = size_table(near)
-    if sizes[-1] < size_table(near_masks(web))[-1]:
+    everything = all_places(web)
+    mates = greatest_mates(near_masks(web), everything)[0]
+    x, y = tie
+    if mates[x] != y:
+        return ties_of(mates)
+    found = paired_whole(near_masks(less_tie(web, tie)), everything, freed(mates, tie))[0]
+    if spare_of(everything, found) > spare_of(everything, mates):
         return None
-    return first_greatest(near, sizes, all_places(web))
+    return ties_of(found)
 
 
 def lean_web(web):
     """The web without its idle ties."""
     check_web(web)
-    n, ties = web
-    idle = idle_ties(web)
-    return (n, tuple([tie for tie in ties if tie not in idle]))
+    lean = lean_masks(near_masks(web))[3]
+    return (web[0], tuple([(x, y) for x, y in web[1] if lean[x] >> y & 1]))
 
 
 def lean_pieces(web):
@@ -83,78 +90,69 @@ def lean_pieces(web):
 def is_covered(web):
     """Whether the web has two places or more, is joined, has a full pairing and no idle tie."""
     check_web(web)
-    n = web[0]
-    if n < 2 or len(pieces(web)) > 1:
+    near = near_masks(web)
+    everything = all_places(web)
+    if web[0] < 2 or piece_mask(near, everything, 0) != everything:
         return False
-    return 2 * size_table(near_masks(web))[-1] == n and idle_ties(web) == []
+    _, opened, _, lean = lean_masks(near)
+    return opened == 0 and lean == near
 
 
 def tie_counts(web):
     """The tuple of the numbers of greatest pairings that have each tie."""
     check_web(web)
-    sizes, counts = _tables(web)
-    return tuple([_count_with(sizes, counts, (tie,)) for tie in web[1]])
+    paired = _tallied(web)[1]
+    return tuple([paired[tie] for tie in web[1]])
 
 
 def tie_shares(web):
     """The tuple of the shares of the single ties."""
     check_web(web)
-    total = _tables(web)[1][-1]
-    return tuple([ratio(count, total) for count in tie_counts(web)])
+    total, paired, _ = _tallied(web)
+    return tuple([ratio(paired[tie], total) for tie in web[1]])
 
 
 def alone_shares(web):
     """The tuple of the shares alone of the places."""
     check_web(web)
-    sizes, counts = _tables(web)
-    everything = all_places(web)
-    shares = []
-    for place in range(web[0]):
-        rest = everything - (1 << place)
-        count = counts[rest] if sizes[rest] == sizes[everything] else 0
-        shares.append(ratio(count, counts[everything]))
-    return tuple(shares)
+    total, _, alone = _tallied(web)
+    return tuple([ratio(count, total) for count in alone])
 
 
 def share_of(web, ties):
     """The share of these ties together."""
     check_web(web)
     check_ties(web, ties)
-    sizes, counts = _tables(web)
-    return ratio(_count_with(sizes, counts, ties), counts[-1])
-
-
-def _tables(web):
-    """The sizes, and the numbers, of the greatest pairings of all masks of places."""
-    near = near_masks(web)
-    sizes = size_table(near)
-    return (sizes, count_table(near, sizes))
-
-
-def _count_with(sizes, counts, ties):
-    """The number of the greatest pairings that have all these ties."""
-    everything = len(sizes) - 1
-    rest = everything
+    mates, opened, _, lean = lean_masks(near_masks(web))
+    rest = all_places(web)
+    if any([not lean[x] >> y & 1 for x, y in ties]):
+        return (0, 1)
     for x, y in ties:
         if not (rest >> x & 1 and rest >> y & 1):
-            return 0
+            return (0, 1)
         rest -= (1 << x) + (1 << y)
-    if sizes[rest] + len(ties) < sizes[everything]:
-        return 0
-    return counts[rest]
+    size = len(ties_of(mates))
+    count = told_for(packed_total(lean, rest, opened), size - len(ties))
+    return ratio(count, told_for(packed_total(lean, all_places(web), opened), size))
+
+
+def _tallied(web):
+    """The tuple (total, paired, alone), as of tallies, of the greatest pairings."""
+    mates, opened, _, lean = lean_masks(near_masks(web))
+    return tallies(lean, all_places(web), opened, len(ties_of(mates)))
 
 
 def _kinds(web):
     """The dict of the kinds of all ties."""
-    sizes, counts = _tables(web)
+    _, _, closed, lean = lean_masks(near_masks(web))
     kinds = {}
-    for tie in web[1]:
-        count = _count_with(sizes, counts, (tie,))
-        kinds[tie] = "loose"
-        if count == 0:
-            kinds[tie] = "idle"
-        if count == counts[-1]:
-            kinds[tie] = "fixed"
+    for x, y in web[1]:
+        kinds[(x, y)] = "loose"
+        if not lean[x] >> y & 1:
+            kinds[(x, y)] = "idle"
+        # A place that is not open, with one tie that is not idle, always has this tie.
+        elif closed >> x & 1 and lean[x] == 1 << y:
+            kinds[(x, y)] = "fixed"
     return kinds
 
 

@@ -1,81 +1,83 @@
-"""What is reckoned once for all masks of places of a web, and read off from it.
+"""Numbers of pairings, reckoned place by place over what is left behind each place.
 
+A *packed* number tells a number for each number of ties: that for k ties stands at the bits from
+20 * k on. Sums and products of packed numbers are then those of the numbers that they tell, and
+no number reaches the next one, since 12 places have 140,152 pairings at the most.
 Nothing here checks what it is passed.
 """
 
-from everypairing.masks import near_masks, odd_piece_masks, places_in
+WIDTH = 20
 
 
-def size_table(near):
-    """The list that has at each mask the size of a greatest pairing of its places."""
-    sizes = [0]
-    for last in range(len(near)):
-        bits = [1 << place for place in range(last) if near[last] >> place & 1]
-        for rest in range(1 << last):
-            paired = [sizes[rest - bit] + 1 for bit in bits if rest & bit]
-            sizes.append(max([sizes[rest]] + paired))
-    return sizes
+def told_for(packed, size):
+    """The number that the packed number tells for so many ties."""
+    return packed >> WIDTH * size & (1 << WIDTH) - 1
 
 
-def count_table(near, sizes):
-    """The list that has at each mask the number of the greatest pairings of its places."""
-    counts = [1]
-    for last in range(len(near)):
-        bits = [1 << place for place in range(last) if near[last] >> place & 1]
-        for rest in range(1 << last):
-            size = sizes[rest + (1 << last)]
-            count = counts[rest] if sizes[rest] == size else 0
-            for bit in bits:
-                if rest & bit and sizes[rest - bit] + 1 == size:
-                    count += counts[rest - bit]
-            counts.append(count)
-    return counts
+def _low(mask):
+    """The least place of the mask; -1, so the last index of a list, for no place."""
+    return (mask & -mask).bit_length() - 1
 
 
-def excess_table(web):
-    """The list that has at the mask of each lot its excess."""
-    near = near_masks(web)
-    everything = (1 << len(near)) - 1
-    return [
-        len(odd_piece_masks(near, everything - lot)) - len(places_in(lot))
-        for lot in range(everything + 1)
-    ]
+def _stages(near, mask, opened):
+    """The list of dicts that have, by the least place that is left, what can be left of the mask.
+
+    The value of what is left is the packed number of the ways to pair those that are not left,
+    with only open ones of them alone. The last dict is for nothing left.
+    """
+    stages = [{} for _ in near] + [{}]
+    stages[_low(mask)][mask] = 1
+    for place in range(len(near)):
+        for state, count in list(stages[place].items()):
+            rest = state - (1 << place)
+            if opened >> place & 1:
+                stage = stages[_low(rest)]
+                stage[rest] = stage.get(rest, 0) + count
+            count <<= WIDTH
+            mates = near[place] & rest
+            while mates:
+                bit = mates & -mates
+                mates -= bit
+                left = rest - bit
+                stage = stages[_low(left)]
+                stage[left] = stage.get(left, 0) + count
+    return stages
 
 
-def first_greatest(near, sizes, mask):
-    """The first greatest pairing of the places of the mask, as Python orders tuples."""
-    ties = []
-    while sizes[mask]:
-        least = (mask & -mask).bit_length() - 1
-        rest = mask - (1 << least)
-        mates = [
-            place for place in places_in(near[least] & rest)
-            if sizes[rest - (1 << place)] + 1 == sizes[mask]
-        ]
-        mask = rest
-        if mates:
-            ties.append((least, mates[0]))
-            mask = rest - (1 << mates[0])
-    return tuple(ties)
+def packed_total(near, mask, opened):
+    """The packed number of the pairings of the mask that leave only open places alone."""
+    return _stages(near, mask, opened)[-1].get(0, 0)
 
 
-def spare_of(sizes, mask):
-    """How many places of the mask are alone in a greatest pairing of them."""
-    return len(places_in(mask)) - 2 * sizes[mask]
+def tallies(near, mask, opened, size):
+    """The tuple (total, paired, alone) of the pairings of the mask with so many ties.
 
-
-def open_mask(sizes):
-    """The places that some greatest pairing leaves alone."""
-    everything = len(sizes) - 1
-    return sum([
-        1 << place for place in places_in(everything)
-        if sizes[everything - (1 << place)] == sizes[everything]
-    ])
-
-
-def holding_mask(near, opened):
-    """The places that are not open but tied with one of the open ones."""
-    found = 0
-    for place in places_in(opened):
-        found |= near[place]
-    return found & ~opened
+    Only those that leave only open places alone are counted: total is their number, paired the
+    dict of the numbers of those that have each tie, alone the list of the numbers of those that
+    leave each place alone.
+    """
+    stages = _stages(near, mask, opened)
+    behind = {0: 1}
+    paired = {}
+    alone = [0] * len(near)
+    for place in reversed(range(len(near))):
+        sums = [0] * len(near)
+        for state, count in stages[place].items():
+            rest = state - (1 << place)
+            total = 0
+            if opened >> place & 1:
+                total = behind[rest]
+                alone[place] += count * total
+            mates = near[place] & rest
+            while mates:
+                bit = mates & -mates
+                mates -= bit
+                number = behind[rest - bit] << WIDTH
+                total += number
+                sums[bit.bit_length() - 1] += count * number
+            behind[state] = total
+        for mate in range(place + 1, len(near)):
+            paired[(place, mate)] = told_for(sums[mate], size)
+    return (
+        told_for(behind[mask], size), paired, [told_for(number, size) for number in alone],
+    )

@@ -41,7 +41,7 @@ WORDS = """
 """.split()
 LAZY = ("zip", "enumerate", "reversed", "range", "map")
 TAKING = ("list", "tuple", "dict", "sorted", "sum", "any", "all", "enumerate", "zip", "min", "max",
-          "reversed", "len")
+          "reversed", "len", "combinations", "permutations", "product")
 BARRED_STARTS = ("_wall", "_pe_", "_dcw_", "_enum_", "_cm_", "_twin_re_", "_lay_", "_law_",
                  "_stub_", "_sre", "_cold", "_tuplegetter", "_outside", "_record", "_written_out",
                  "_member_names")

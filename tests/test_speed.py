@@ -2,7 +2,7 @@ import time
 import unittest
 
 from tests import functions, plain
-from everypairing import ears_odd, errors, greatest
+from everypairing import barriers, ears_odd, errors, greatest, lots, shares_of_ties
 
 # "Within some seconds" on a machine that may run other tests at the same time.
 SECONDS = 5
@@ -39,6 +39,79 @@ class Speed(unittest.TestCase):
                     bounded = function.__name__ in ("barriers", "beside")
                     self.assertEqual(isinstance(error, errors.TooMany), bounded)
                 self.assertLess(time.monotonic() - start, SECONDS, (function.__name__, web))
+
+
+NONE, RING, ALL = plain.untied(12), plain.ring(12), plain.all_tied(12)
+TWO = (12, tuple((x, y) for x in range(6) for y in range(6, 12)))
+TWOS = plain.possible_ties(12)
+
+
+def each(function, web, parts):
+    return lambda: [function(web, part) for part in parts]
+
+
+def each_two(web):
+    return lambda: [shares_of_ties.kind_between(web, x, y)
+                    for x in range(12) for y in range(12) if x != y]
+
+
+def over_and_with(web):
+    return lambda: [(barriers.barrier_over(web, tie), shares_of_ties.greatest_with(web, tie))
+                    for tie in web[1]]
+
+
+def lengthen_on():
+    pairing = ()
+    row = greatest.longer_row(ALL, pairing)
+    while row is not None:
+        pairing = greatest.lengthened(ALL, pairing, row)
+        row = greatest.longer_row(ALL, pairing)
+
+
+class Rows(unittest.TestCase):
+    """Rows of calls for one web, so that rows for many webs can be made."""
+
+    def check(self, milliseconds, call):
+        best = None
+        for _ in range(7):
+            start = time.perf_counter()
+            call()
+            spent = time.perf_counter() - start
+            best = spent if best is None else min(best, spent)
+            if best * 1000 < milliseconds:
+                return
+        self.assertLess(best * 1000, milliseconds)
+
+    def test_calls_that_belong_together(self):
+        self.check(210, over_and_with(ALL))
+        self.check(110, over_and_with(TWO))
+        self.check(170, each(barriers.barrier_over, ALL, TWOS))
+        self.check(320, each(barriers.barrier_over, NONE, TWOS))
+        self.check(130, each_two(ALL))
+        self.check(87, each_two(TWO))
+        self.check(35, each(barriers.is_barrier, ALL, TWOS))
+        self.check(35, each(barriers.is_dear, ALL, TWOS))
+        self.check(6.7, each(lots.leaving, ALL, range(12)))
+        self.check(4.2, lengthen_on)
+
+    def test_single_calls(self):
+        for web, wanted in ((NONE, 4.2), (RING, 2.8)):
+            for function in (barriers.greatest_barriers, barriers.barrier_core, ears_odd.hindrance,
+                             barriers.barrier_count):
+                self.check(wanted, lambda: function(web))
+            for function in (barriers.barrier_over, barriers.barriers_over):
+                self.check(wanted, lambda: function(web, (0,)))
+        for function, wanted in [
+            (barriers.greatest_barriers, 2.6), (barriers.barrier_core, 2.6), (ears_odd.lumps, 2.1),
+            (barriers.place_classes, 1.5), (shares_of_ties.is_covered, 1.5),
+            (greatest.greatest_size, 1), (greatest.spare, 1), (greatest.greatest_pairing, 1),
+            (greatest.spare_lot, 1), (shares_of_ties.tie_shares, 3.6),
+        ]:
+            self.check(wanted, lambda: function(ALL))
+        full = greatest.greatest_pairing(ALL)
+        self.check(3.8, lambda: greatest.completed(ALL, ()))
+        self.check(1.6, lambda: lots.held(ALL, full))
+        self.check(1, lambda: greatest.longer_row(ALL, ()))
 
 
 if __name__ == "__main__":
