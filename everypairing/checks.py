@@ -1,6 +1,6 @@
 """Whether values have the forms of the document, and the errors if they have not."""
 
-from everypairing.errors import InvalidLot, InvalidPairing, InvalidPlace
+from everypairing.errors import InvalidCount, InvalidLot, InvalidPairing, InvalidPlace
 from everypairing.errors import InvalidTie, InvalidTies, InvalidWeb, TooMany
 
 MOST_PLACES = 12
@@ -134,6 +134,12 @@ def check_lot(web, lot):
     """Raise InvalidLot unless it is a lot of places of the web."""
     if not fits_lot(web[0], lot):
         raise InvalidLot("no lot of places of the web")
+
+
+def check_number(number):
+    """Raise InvalidCount unless it is an integer from 0 on."""
+    if not is_whole(number) or number < 0:
+        raise InvalidCount("no number from 0 on")
 
 
 def check_at_most(n, count):

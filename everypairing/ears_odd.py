@@ -2,14 +2,13 @@
 
 from itertools import combinations
 
-from everypairing.checks import check_pairing, check_place, check_web
-from everypairing.checks import fits_place, is_list, is_tuple
+from everypairing.checks import check_pairing, check_place, check_web, is_list
 from everypairing.errors import InvalidEars, InvalidPairing, NotBuilt
 from everypairing.finding import first_full, greatest_mates, grown, spare_of, ties_of
 from everypairing.masks import all_places, in_lot_order, mask_of
 from everypairing.masks import near_masks, odd_piece_masks, piece_masks, places_in
 from everypairing.parts import lean_masks, pairing_leaving
-from everypairing.rows import mates_in, tie_of, ties_along
+from everypairing.rows import fits_odd_ear, goes_along, mate_ties, mates_in, ties_along
 from everypairing.tables import tallies
 from everypairing.webs import alone
 
@@ -101,8 +100,7 @@ def is_ears_along(web, pairing, value):
     places = alone(web, pairing)
     if len(places) != 1 or not _is_building(web, places[0], value):
         return False
-    wanted = [tie for ear in value for tie in _ties_by_turns(ear, 1, len(ear) - 2)]
-    return all([tie in pairing for tie in wanted])
+    return all([goes_along(ear, pairing) for ear in value])
 
 
 def near_by_ears(web, place, ears, goal):
@@ -174,7 +172,7 @@ def _is_building(web, place, value):
     there = [place]
     used = []
     for ear in value:
-        if not _is_odd_ear(web, there, ear):
+        if not fits_odd_ear(web, there, ear):
             return False
         fresh = ties_along(ear)
         if any([tie in used for tie in fresh]):
@@ -184,36 +182,15 @@ def _is_building(web, place, value):
     return len(there) == n and len(used) == len(ties)
 
 
-def _is_odd_ear(web, there, value):
-    """Whether any value is an odd ear of the lot of the places that are there."""
-    n, ties = web
-    if not is_tuple(value) or len(value) < 2 or len(value) % 2 == 1:
-        return False
-    if not all([fits_place(n, place) for place in value]):
-        return False
-    if not all([tie in ties for tie in ties_along(value)]):
-        return False
-    inside = list(value[1:-1])
-    if len(set(inside)) < len(inside) or any([place in there for place in inside]):
-        return False
-    # Neighbours are tied, so the ends of an ear of one tie are unlike.
-    return value[0] in there and value[-1] in there
-
-
-def _ties_by_turns(ear, start, stop):
-    """The ties of the places with the indexes start and start + 1, .., stop - 1 and stop."""
-    return [tie_of(ear[at], ear[at + 1]) for at in range(start, stop, 2)]
-
-
 def _ties_beside(ear, staying):
     """The ties of the ear that pair its inner places while this place stays alone."""
     last = len(ear) - 1
     if staying not in ear[1:-1]:
-        return _ties_by_turns(ear, 1, last - 1)
+        return mate_ties(ear, 1, last - 1)
     at = ear.index(staying)
     if at % 2 == 1:
-        return _ties_by_turns(ear, 1, at - 1) + _ties_by_turns(ear, at + 1, last)
-    return _ties_by_turns(ear, 0, at - 1) + _ties_by_turns(ear, at + 1, last - 1)
+        return mate_ties(ear, 1, at - 1) + mate_ties(ear, at + 1, last)
+    return mate_ties(ear, 0, at - 1) + mate_ties(ear, at + 1, last - 1)
 
 
 def _staying_behind(ear, staying):

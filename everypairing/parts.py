@@ -4,7 +4,7 @@ Nothing here checks what it is passed.
 """
 
 from everypairing.finding import exchanged_mates, freed, greatest_mates, grown
-from everypairing.masks import mask_of, near_any, places_in
+from everypairing.masks import mask_of, near_any, piece_mask, places_in
 
 
 def three_masks(near, mask):
@@ -48,3 +48,21 @@ def pairing_leaving(near, mask, place):
     if place not in ways:
         return None
     return exchanged_mates(mates, ways[place])
+
+
+def is_covered_mask(near, mask):
+    """Whether the web of the places of the mask is covered; near has ties within it alone."""
+    # A joined web of one place has no full pairing.
+    if mask == 0 or piece_mask(near, mask, mask.bit_length() - 1) != mask:
+        return False
+    mates, ways = greatest_mates(near, mask)
+    if ways:
+        return False
+    return all([
+        near[place] & ~without_one(near, mask, mates, place) == 0 for place in places_in(mask)
+    ])
+
+
+def pairs_whole(near, mask):
+    """Whether the places of the mask have a full pairing."""
+    return greatest_mates(near, mask)[1] == {}

@@ -2,8 +2,8 @@
 
 from everypairing.checks import check_other_place, check_place, check_tie, check_ties, check_web
 from everypairing.finding import freed, greatest_mates, paired_whole, spare_of, ties_of
-from everypairing.masks import all_places, mask_of, near_masks, piece_mask
-from everypairing.parts import lean_masks
+from everypairing.masks import all_places, mask_of, near_masks
+from everypairing.parts import is_covered_mask, lean_masks
 from everypairing.ratios import ratio
 from everypairing.rows import tie_of
 from everypairing.tables import packed_total, tallies, told_for
@@ -90,12 +90,7 @@ def lean_pieces(web):
 def is_covered(web):
     """Whether the web has two places or more, is joined, has a full pairing and no idle tie."""
     check_web(web)
-    near = near_masks(web)
-    everything = all_places(web)
-    if web[0] < 2 or piece_mask(near, everything, 0) != everything:
-        return False
-    _, opened, _, lean = lean_masks(near)
-    return opened == 0 and lean == near
+    return is_covered_mask(near_masks(web), all_places(web))
 
 
 def tie_counts(web):

@@ -87,4 +87,54 @@ raises NotBuilt((0,))
 >>> is_odd_ears((1, ()), 0, [])
 True
 """,
+    7: """
+>>> six = (6, ((0, 1), (0, 5), (1, 2), (2, 3), (3, 4), (4, 5)))
+>>> is_covered_ears(six, (0, 1), [((1, 2, 3, 4, 5, 0),)])
+True
+>>> [takes_ear(six, 0, 2), takes_ear(six, 0, 3)]
+[False, True]
+>>> all_tied = (4, ((0, 1), (0, 2), (0, 3), (1, 2), (1, 3), (2, 3)))
+>>> is_covered_ears(all_tied, (0, 1), [((1, 2, 3, 0),), ((0, 2), (1, 3))])
+True
+>>> is_covered_ears(all_tied, (0, 1), [((1, 2, 3, 0),), ((0, 2),), ((1, 3),)])
+False
+>>> comb = (6, ((0, 1), (0, 2), (1, 3), (1, 4), (2, 4), (4, 5)))
+>>> [bridges(comb), is_lone_row(comb, [(4, 5), (1, 3), (0, 2)]), is_lone_row(comb, [(0, 2), (4, 5), (1, 3)])]
+[[(1, 3), (4, 5)], True, False]
+>>> covered_ears(comb, (0, 2))
+raises NotCovered((0, 1))
+""",
+    8: """
+>>> six = (6, ((0, 1), (0, 5), (1, 2), (2, 3), (3, 4), (4, 5)))
+>>> [difference(six, ((0, 1), (2, 3), (4, 5)), ((0, 5), (1, 2), (3, 4))), len(small_classes(six))]
+[[('round', (0, 1, 2, 3, 4, 5))], 2]
+>>> line = (5, ((0, 1), (1, 2), (2, 3), (3, 4)))
+>>> [switched(line, ((0, 1), (2, 3)), ("row", (2, 3, 4))), is_switch(line, ((0, 1), (2, 3)), ("row", (0, 1, 2))), between_count(line, ((0, 1), (2, 3)), ((1, 2), (3, 4)))]
+[((0, 1), (3, 4)), False, 3]
+>>> [nth_between(line, ((0, 1), (2, 3)), ((1, 2), (3, 4)), 1), len(small_row(line, ((0, 1), (2, 3)), ((1, 2), (3, 4)))), switch_to_alone(line, ((0, 1), (2, 3)), 1)]
+[((0, 1), (3, 4)), 2, None]
+>>> hubs = web_told("j:ae,af,ag,ah,ai,aj,be,bf,bg,bh,bi,bj,ce,cf,cg,ch,ci,cj,de,df,dg,dh,di,dj")
+>>> here = ((0, 4), (1, 5), (2, 6), (3, 7))
+>>> there = ((0, 5), (1, 4), (2, 8), (3, 9))
+>>> [len(difference(hubs, here, there)), fewest_switches(hubs, here, there)]
+[3, 2]
+>>> is_switch_row(hubs, here, there, [("row", (6, 2, 5, 1, 4, 0, 7, 3, 8)), ("row", (7, 0, 5, 2, 8, 3, 9))])
+True
+>>> switched(line, ((0, 1), (2, 3)), ("row", (0, 1, 2)))
+raises InvalidSwitch
+""",
+    9: """
+>>> two = (7, ((0, 3), (0, 4), (1, 4), (1, 5), (2, 5), (2, 6)))
+>>> [sides(two), greatest_lack(two), short_ends(two), short_lot_count(two)]
+[((0, 1, 2), (3, 4, 5, 6)), 0, ((), ()), 1]
+>>> steps = (6, ((0, 3), (1, 3), (1, 4), (2, 4), (2, 5)))
+>>> [short_lot_count(steps), nth_short_lot(steps, 2), cover_by(steps, (0, 1)), is_short_lot(steps, (1,))]
+[4, (0, 1), (2, 3, 4), False]
+>>> blocks(steps)
+((), ((0, 3), (1, 4), (2, 5)), ((1, 0), (2, 1)), ())
+>>> [short_ends((4, ((0, 1), (1, 2), (1, 3)))), blocks((4, ((0, 1), (1, 2), (1, 3))))]
+[((0, 2, 3), (0, 2, 3)), ((0, 1, 2, 3), (), (), ())]
+>>> [len(tie_parting(steps)), len(least_cover(steps)), partners(steps, (0, 4))]
+[2, 3, (1, 2, 3)]
+""",
 }

@@ -1,8 +1,9 @@
 """The functions of the interface that have landed: their parameters, and arguments that fit."""
 
-from everypairing import barriers, ears_odd, greatest, lots, shares_of_ties, webs
+from everypairing import barriers, ears_covered, ears_odd, greatest, lots, shares_of_ties, sides
+from everypairing import switches, webs
 
-MODULES = (webs, greatest, lots, shares_of_ties, barriers, ears_odd)
+MODULES = (webs, greatest, lots, shares_of_ties, barriers, ears_odd, ears_covered, switches, sides)
 
 # As the interface lists them; a default value stands behind "=".
 INTERFACE = {
@@ -34,26 +35,55 @@ INTERFACE = {
         odd_ears(web, place) is_odd_ears(web, place, value) ears_along(web, pairing)
         is_ears_along(web, pairing, value) near_by_ears(web, place, ears, goal)
     """,
+    ears_covered: """
+        takes_ear(web, place, other_place) covered_ears(web, tie) is_covered_ears(web, tie, value)
+        covered_along(web, pairing) is_covered_along(web, pairing, value) bridges(web)
+        lone_row(web) is_lone_row(web, value)
+    """,
+    switches: """
+        difference(web, pairing, other_pairing) is_switch(web, pairing, value)
+        switched(web, pairing, switch) is_switch_row(web, pairing, other_pairing, value)
+        fewest_switches(web, pairing, other_pairing) switch_row(web, pairing, other_pairing)
+        switch_at(web, pairing, tie) switch_to_alone(web, pairing, place)
+        between_count(web, pairing, other_pairing)
+        nth_between(web, pairing, other_pairing, number) small_classes(web)
+        small_row(web, pairing, other_pairing)
+    """,
+    sides: """
+        sides(web) partners(web, lot) is_cover(web, lot) greatest_lack(web) short_ends(web)
+        short_lot_count(web) nth_short_lot(web, number) is_short_lot(web, lot)
+        cover_by(web, lot) least_cover(web) blocks(web) tie_parting(web)
+    """,
 }
 
 FIVE = (5, ((0, 1), (0, 4), (1, 2), (2, 3), (3, 4)))
 PATH = (4, ((0, 1), (1, 2), (2, 3)))
 STAR = (4, ((0, 1), (0, 2), (0, 3)))
+SQUARE = (4, ((0, 1), (0, 3), (1, 2), (2, 3)))
 EARS = [(0, 1, 2, 3, 4, 0)]
 
 # The usual fitting argument of a parameter, for the web FIVE, and those that differ.
 FITTING = {
     "web": FIVE, "other_web": PATH, "value": None, "pairing": ((0, 1), (2, 3)), "place": 0,
     "other_place": 1, "lot": (0, 2), "tie": (0, 1), "ties": ((0, 1), (2, 3)), "ears": EARS,
-    "goal": 2, "text": "d:ab,bc", "row": (1, 2, 3, 4, 0),
+    "goal": 2, "text": "d:ab,bc", "row": (1, 2, 3, 4, 0), "other_pairing": ((1, 2), (3, 4)),
+    "switch": ("row", (2, 3, 4)), "number": 0,
 }
+TWO_SIDED = (5, ((0, 2), (0, 3), (1, 3), (1, 4)))
 SPECIAL = {
     "with_tie": {"tie": (0, 2)},
     "lengthened": {"pairing": ((1, 2),), "row": (3, 4)},
     "place_classes": {"web": PATH},
     "pieces_left": {"web": STAR, "lot": (0,)},
     "met_pieces": {"web": STAR, "lot": (0,), "pairing": ((0, 2),)},
+    "takes_ear": {"web": SQUARE},
+    "covered_ears": {"web": SQUARE},
+    "covered_along": {"web": SQUARE},
+    "cover_by": {"web": TWO_SIDED, "lot": ()},
 }
+for name in ("sides", "greatest_lack", "short_ends", "short_lot_count", "nth_short_lot",
+             "is_short_lot", "least_cover", "blocks", "tie_parting"):
+    SPECIAL[name] = {"web": TWO_SIDED}
 
 
 def listed():

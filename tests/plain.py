@@ -252,3 +252,37 @@ def goes_along(pairing, ears):
         tie_of(ear[at], ear[at + 1]) in pairing
         for ear in ears for at in range(1, len(ear) - 2, 2)
     )
+
+
+def lean_web(web):
+    return (web[0], tuple(tie for tie in web[1] if tie_kind(web, tie) != "idle"))
+
+
+def is_covered(web):
+    if web[0] < 2 or len(pieces(web)) > 1:
+        return False
+    found = greatest(web)
+    return 2 * len(found[0]) == web[0] and {tie for p in found for tie in p} == set(web[1])
+
+
+def full_pairings(web):
+    return [pairing for pairing in greatest(web) if 2 * len(pairing) == web[0]]
+
+
+def two_sided_webs(seed, many):
+    """Two-sided webs of 1 to 8 places, whose sides are mixed up."""
+    source = random.Random(seed)
+    webs = [(1, ()), (2, ()), (2, ((0, 1),)), (8, ()), stars(8), line(7), ring(8), ring(6)]
+    for _ in range(many):
+        n = source.choice((3, 4, 5, 6, 6, 7, 7, 8, 8))
+        marks = [source.random() < 0.5 for _ in range(n)]
+        part = source.choice((0.3, 0.5, 0.7, 1))
+        webs.append((n, tuple((x, y) for x, y in possible_ties(n)
+                              if marks[x] != marks[y] and source.random() < part)))
+    return webs
+
+
+def wrong_in(parts):
+    """Values that no web, lot, pairing .. has, and the parts as a tuple in the place of a list."""
+    return [None, True, False, 0, 1, -1, 10 ** 80, "", "round", (), tuple(parts), [list(parts)],
+            [None], [True], [()], [[]], [parts], {}, "abc", b"a", 1.5]

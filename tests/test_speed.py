@@ -2,7 +2,7 @@ import time
 import unittest
 
 from tests import functions, plain
-from everypairing import barriers, ears_odd, errors, greatest, lots, shares_of_ties
+from everypairing import barriers, ears_odd, errors, greatest, lots, shares_of_ties, switches
 
 # "Within some seconds" on a machine that may run other tests at the same time.
 SECONDS = 5
@@ -12,6 +12,20 @@ def webs_of(n):
     half = [(n, tuple(tie for at, tie in enumerate(plain.possible_ties(n)) if at % 7 in some))
             for some in ((0, 2, 4, 5), (1, 3, 6), (0, 1, 2))]
     return [plain.all_tied(n), plain.untied(n), plain.ring(n), plain.line(n), plain.stars(n)] + half
+
+
+def other_greatest(web):
+    """A greatest pairing, another one if there is one."""
+    for tie in greatest.greatest_pairing(web):
+        other = shares_of_ties.greatest_avoiding(web, tie)
+        if other is not None:
+            return other
+    return greatest.greatest_pairing(web)
+
+
+def any_switch(web, pairing):
+    parts = switches.difference(web, pairing, other_greatest(web))
+    return parts[0] if parts else ()
 
 
 class Speed(unittest.TestCase):
@@ -24,7 +38,8 @@ class Speed(unittest.TestCase):
             "web": web, "other_web": web, "value": [(0, 1)] * 30, "pairing": pairing,
             "place": 3, "other_place": 7, "lot": (0, 2, 5), "tie": tie, "ties": pairing[:2],
             "ears": ears_odd.odd_ears(web, 3) if near else [], "goal": 5, "text": "l:ab,kl",
-            "row": tuple(range(web[0]))[::-1],
+            "row": tuple(range(web[0]))[::-1], "other_pairing": other_greatest(web), "number": 3,
+            "switch": any_switch(web, pairing),
         }
         return [fitting[name] for name in names]
 
@@ -36,7 +51,8 @@ class Speed(unittest.TestCase):
                 try:
                     function(*arguments)
                 except errors.PairError as error:
-                    bounded = function.__name__ in ("barriers", "beside")
+                    bounded = function.__name__ in (
+                        "barriers", "beside", "small_classes", "small_row")
                     self.assertEqual(isinstance(error, errors.TooMany), bounded)
                 self.assertLess(time.monotonic() - start, SECONDS, (function.__name__, web))
 

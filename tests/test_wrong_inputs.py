@@ -3,9 +3,10 @@ import unittest
 from itertools import combinations
 
 from tests import functions
-from tests.functions import EARS, FIVE, PATH, STAR
+from tests.functions import EARS, FIVE, PATH, SQUARE, STAR
 from tests.test_webs import NO_WEBS
-from everypairing import barriers, ears_odd, errors, greatest, lots, webs
+from everypairing import barriers, ears_covered, ears_odd, errors, greatest, lots, sides, switches
+from everypairing import webs
 
 # What no place, lot, tie .. is, in any web of some places; [], None and the like fit nowhere.
 ODD = [None, True, False, "", "ab", [], {}, [0], [0, 1], [(0, 1)], 1.0, b"a"]
@@ -18,6 +19,14 @@ WRONG = {
     "web": [value for value in NO_WEBS if not isinstance(value, dict)],
     "other_web": NO_WEBS,
     "pairing": NO_TIES + [((0, 1), (1, 2))],
+    "other_pairing": NO_TIES + [((0, 1), (1, 2))],
+    "number": ODD + [-1, -10 ** 80, (), (0,), "0", ((0, 1),)],
+    "switch": ODD + [0, (), ("row",), ("row", (2, 3, 4), ()), ["row", (2, 3, 4)],
+                     ("row", [2, 3, 4]), ("round", (2, 3, 4)), ("row", (4, 3, 2)), (b"row", (2, 3, 4)),
+                     ("row", (2, 3)), ("row", ()), ("row", (2,)), ("row", (2, 3, 4, 0)),
+                     ("row", (2, 3, 5)), ("row", (False, 3, 4)), ("row", (1, 2, 3)), (0, (2, 3, 4)),
+                     ("Row", (2, 3, 4)), (("row", (2, 3, 4)),), ("row", (2, 3, 4), None),
+                     ("row", (2, 4, 3)), ("row", (2, 3, 2)), ("row", "cde"), (None, (2, 3, 4))],
     "place": NO_PLACE,
     "goal": NO_PLACE,
     "other_place": NO_PLACE + [0],
@@ -34,7 +43,8 @@ ERRORS = {
     "web": "InvalidWeb", "other_web": "InvalidWeb", "pairing": "InvalidPairing",
     "place": "InvalidPlace", "goal": "InvalidPlace", "other_place": "InvalidPlace",
     "lot": "InvalidLot", "tie": "InvalidTie", "ties": "InvalidTies", "row": "InvalidRow",
-    "ears": "InvalidEars", "text": "InvalidText",
+    "ears": "InvalidEars", "text": "InvalidText", "other_pairing": "InvalidPairing",
+    "number": "InvalidCount", "switch": "InvalidSwitch",
 }
 
 
@@ -47,8 +57,11 @@ def wrong_for(function, name):
         values.append(())
     if function in (barriers.pieces_left, barriers.met_pieces) and name in ("lot", "pairing"):
         values = [value for value in values if value != ((0, 3),)]
-    if name == "pairing" and function is ears_odd.ears_along:
+    if name == "pairing" and function in (ears_odd.ears_along, ears_covered.covered_along):
         values += [(), ((0, 1),)]
+    if function in (ears_covered.covered_ears, ears_covered.covered_along):
+        # (0, 3) is a tie of the square.
+        values = [value for value in values if value not in ((0, 3), ((0, 3),))]
     return values
 
 
@@ -121,6 +134,38 @@ class WrongInputs(unittest.TestCase):
             (ears_odd.ears_along, [(3, ((0, 1),)), ((0, 1),)], "NotBuilt"),
             (ears_odd.near_by_ears, [PATH, 0, [], 9], "InvalidEars"),
             (ears_odd.near_by_ears, [FIVE, 0, EARS, 9], "InvalidPlace"),
+            (ears_covered.takes_ear, [STAR, 0, 0], "InvalidPlace"),
+            (ears_covered.takes_ear, [STAR, 4, 0], "InvalidPlace"),
+            (ears_covered.takes_ear, [PATH, 0, 1], "NotCovered"),
+            (ears_covered.covered_ears, [PATH, (0, 2)], "InvalidTie"),
+            (ears_covered.covered_ears, [PATH, (0, 1)], "NotCovered"),
+            (ears_covered.covered_along, [PATH, ((1, 2),)], "InvalidPairing"),
+            (ears_covered.covered_along, [PATH, ((0, 1), (2, 3))], "NotCovered"),
+            (ears_covered.covered_along, [STAR, ((0, 1),)], "InvalidPairing"),
+            (switches.switched, [PATH, ((0, 2),), None], "InvalidPairing"),
+            (switches.fewest_switches, [PATH, (), ((0, 2),)], "InvalidPairing"),
+            (switches.fewest_switches, [PATH, (), ((0, 1),)], "NotGreatest"),
+            (switches.switch_row, [PATH, ((0, 1), (2, 3)), ((0, 1),)], "NotGreatest"),
+            (switches.switch_at, [PATH, (), (0, 2)], "InvalidTie"),
+            (switches.switch_at, [PATH, (), (0, 1)], "NotGreatest"),
+            (switches.switch_to_alone, [PATH, (), 4], "InvalidPlace"),
+            (switches.switch_to_alone, [PATH, (), 0], "NotGreatest"),
+            (switches.between_count, [PATH, (), ()], "NotGreatest"),
+            (switches.nth_between, [PATH, (), (), -1], "InvalidCount"),
+            (switches.nth_between, [PATH, (), (), 0], "NotGreatest"),
+            (switches.small_classes, [(9, ((8, 9),))], "InvalidWeb"),
+            (switches.small_classes, [(9, ())], "TooMany"),
+            (switches.small_row, [(9, ()), (), ((0, 1),)], "InvalidPairing"),
+            (switches.small_row, [(9, ((0, 1),)), ((0, 1),), ()], "NotGreatest"),
+            (switches.small_row, [(9, ()), (), ()], "TooMany"),
+            (sides.nth_short_lot, [FIVE, -1], "InvalidCount"),
+            (sides.nth_short_lot, [FIVE, 0], "NotTwoSided"),
+            (sides.is_short_lot, [FIVE, (5,)], "InvalidLot"),
+            (sides.is_short_lot, [FIVE, ()], "NotTwoSided"),
+            (sides.cover_by, [FIVE, (5,)], "InvalidLot"),
+            (sides.cover_by, [FIVE, (4,)], "NotTwoSided"),
+            (sides.cover_by, [SQUARE, (0,)], "NotShort"),
+            (sides.partners, [FIVE, (5,)], "InvalidLot"),
             (greatest.lengthened, [PATH, ((0, 2),), ()], "InvalidPairing"),
             (greatest.lengthened, [PATH, ((0, 1),), ()], "InvalidRow"),
         ]
@@ -134,6 +179,11 @@ class WrongInputs(unittest.TestCase):
             (ears_odd.odd_ears, [PATH, 0], "lot", (0,)),
             (barriers.barriers, [(9, ())], "count", 8),
             (webs.beside, [(12, ()), (1, ())], "count", 12),
+            (switches.small_classes, [(9, ())], "count", 8),
+            (switches.small_row, [(12, ()), (), ()], "count", 8),
+            (ears_covered.takes_ear, [PATH, 0, 1], "tie", (1, 2)),
+            (ears_covered.takes_ear, [(3, ()), 0, 1], "tie", ()),
+            (switches.switch_at, [PATH, ((0, 1),), (0, 1)], "row", (2, 3)),
             (webs.web_told, [7], "index", 0),
         ]:
             with self.assertRaises(errors.PairError) as caught:
