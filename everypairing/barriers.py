@@ -1,5 +1,6 @@
 """Barriers: lots that show how many places each pairing must leave alone."""
 
+from everypairing.checks import MOST_LISTED
 from everypairing.checks import check_at_most, check_lot, check_pairing, check_web
 from everypairing.errors import NotBarrier, NotFull, NotGreatest
 from everypairing.finding import freed, greatest_mates, paired_whole, spare_of
@@ -9,8 +10,6 @@ from everypairing.masks import near_masks, odd_piece_masks, piece_masks, places_
 from everypairing.parts import lean_masks, three_masks, without_one
 from everypairing.rows import mates_in
 from everypairing.webs import odd_pieces
-
-MOST_LISTED = 8
 
 
 def is_barrier(web, lot):

@@ -1,9 +1,16 @@
 """Whether values have the forms of the document, and the errors if they have not."""
 
+from math import gcd
+
 from everypairing.errors import InvalidCount, InvalidLot, InvalidPairing, InvalidPlace
-from everypairing.errors import InvalidTie, InvalidTies, InvalidWeb, TooMany
+from everypairing.errors import InvalidShares, InvalidTie, InvalidTies, InvalidWeb
+from everypairing.errors import InvalidWeights, TooMany
+from everypairing.ratios import ratio_sum
 
 MOST_PLACES = 12
+# Some answers are told for webs of so many places alone.
+MOST_LISTED = 8
+HIGHEST_WORTH = 1000
 
 
 # Classes are compared by name because True and False, and what derives from
@@ -93,6 +100,16 @@ def fits_pairing(web, value):
     return len(set(ends)) == len(ends)
 
 
+def fits_fraction(value):
+    """Whether the value is a fraction from 0 on, in lowest terms."""
+    if not is_tuple(value) or len(value) != 2:
+        return False
+    top, bottom = value
+    if not is_whole(top) or not is_whole(bottom):
+        return False
+    return top >= 0 and bottom >= 1 and gcd(top, bottom) == 1
+
+
 def check_web(web):
     """Raise InvalidWeb unless it is a web."""
     if not fits_web(web):
@@ -140,6 +157,25 @@ def check_number(number):
     """Raise InvalidCount unless it is an integer from 0 on."""
     if not is_whole(number) or number < 0:
         raise InvalidCount("no number from 0 on")
+
+
+def check_worth(worth):
+    """Raise InvalidWeights unless it is a fraction whose top and bottom are from 1 to 1,000."""
+    if not fits_fraction(worth) or not 1 <= worth[0] <= HIGHEST_WORTH or worth[1] > HIGHEST_WORTH:
+        raise InvalidWeights("no fraction of a top and a bottom from 1 to 1,000")
+
+
+def check_shares(web, shares):
+    """Raise InvalidShares unless they are fractions of the ties, with the sum 1 at each place."""
+    n, ties = web
+    if not is_tuple(shares) or len(shares) != len(ties):
+        raise InvalidShares("not as many shares as ties")
+    if not all([fits_fraction(share) for share in shares]):
+        raise InvalidShares("not all are fractions")
+    for place in range(n):
+        at_place = [share for tie, share in zip(ties, shares) if place in tie]
+        if ratio_sum(at_place) != (1, 1):
+            raise InvalidShares("the sum at some place is not 1")
 
 
 def check_at_most(n, count):

@@ -1,5 +1,6 @@
 """How one pairing is led to another one by rows of switches."""
 
+from everypairing.checks import MOST_LISTED
 from everypairing.checks import check_at_most, check_number, check_pairing, check_place, check_tie
 from everypairing.checks import check_web, fits_place, is_list, is_text, is_tuple
 from everypairing.errors import InvalidSwitch, NotGreatest
@@ -8,8 +9,6 @@ from everypairing.listing import greatest_pairings
 from everypairing.lots import leaving
 from everypairing.rows import exchanged, mates_in, tie_of, ties_along
 from everypairing.shares_of_ties import greatest_avoiding, greatest_with
-
-MOST_LISTED = 8
 
 
 def difference(web, pairing, other_pairing):

@@ -6,6 +6,8 @@ no number reaches the next one, since 12 places have 140,152 pairings at the mos
 Nothing here checks what it is passed.
 """
 
+from everypairing.masks import places_in
+
 WIDTH = 20
 
 
@@ -42,6 +44,31 @@ def _stages(near, mask, opened):
                 stage = stages[_low(left)]
                 stage[left] = stage.get(left, 0) + count
     return stages
+
+
+def packed_of(near, mask, known):
+    """The packed number of all pairings of the places of the mask.
+
+    known is a dict of such numbers by their masks; it gets those that are reckoned here.
+    """
+    if mask == 0:
+        return 1
+    if mask not in known:
+        place = _low(mask)
+        rest = mask - (1 << place)
+        total = packed_of(near, rest, known)
+        for mate in places_in(near[place] & rest):
+            total += packed_of(near, rest - (1 << mate), known) << WIDTH
+        known[mask] = total
+    return known[mask]
+
+
+def numbers_told(packed):
+    """The list of the numbers that a packed number tells, up to the last one that is not 0."""
+    found = []
+    while packed >> WIDTH * len(found):
+        found.append(told_for(packed, len(found)))
+    return found
 
 
 def packed_total(near, mask, opened):

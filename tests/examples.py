@@ -137,4 +137,30 @@ raises InvalidSwitch
 >>> [len(tie_parting(steps)), len(least_cover(steps)), partners(steps, (0, 4))]
 [2, 3, (1, 2, 3)]
 """,
+    # The end of Part 9, and Part 10.
+    10: """
+>>> four = (4, ((0, 1), (0, 2), (0, 3), (1, 2), (1, 3), (2, 3)))
+>>> is_mixture(four, ((1, 2), (1, 2), (0, 1), (0, 1), (1, 2), (1, 2)), [((1, 2), ((0, 2), (1, 3))), ((1, 2), ((0, 1), (2, 3)))])
+True
+>>> prism = (6, ((0, 1), (0, 2), (0, 3), (1, 2), (1, 4), (2, 5), (3, 4), (3, 5), (4, 5)))
+>>> crossing(prism, ((1, 2), (1, 2), (0, 1), (1, 2), (0, 1), (0, 1), (1, 2), (1, 2), (1, 2)), (0, 1, 2))
+(0, 1)
+>>> mixture(prism, ((1, 2), (1, 2), (0, 1), (1, 2), (0, 1), (0, 1), (1, 2), (1, 2), (1, 2)))
+raises NotMixture((0, 1, 2))
+>>> square = web_told("d:ab,ad,bc,cd")
+>>> [pairing_counts(path), pairing_counts(square), pairing_total(path), greatest_count(square), full_count((3, ((0, 1),)))]
+[[1, 3, 1], [1, 4, 2], 5, 2, 0]
+>>> [odd_lots(path), even_lot(path), is_even_lot(square, (0, 2)), odd_lots(square)]
+[[(1, 3), (0,), (3,), (0, 2)], None, True, None]
+>>> [nth_pairing(path, 2), nth_pairing(path, 5), nth_pairing(path, 1, size=1), pairing_rank(path, ((1, 2),))]
+[((0, 1), (2, 3)), None, ((1, 2),), 3]
+>>> [pairing_rank(path, ((2, 3),), sized=True), next_pairing(path, ((0, 1),)), next_pairing(path, ((0, 1),), sized=True)]
+[2, ((0, 1), (2, 3)), ((1, 2),)]
+>>> chance_paper(path, 0)
+[((0,), (3, 5)), ((0, 1), (2, 3)), ((0, 1, 2), (1, 2)), ((0, 1, 2, 3), (1, 1))]
+>>> [alone_chance(path, 0), tie_chance(path, (0, 1)), alone_chance(path, 0, worth=(2, 1)), expected_ties(path)]
+[(3, 5), (2, 5), (5, 11), (1, 1)]
+>>> [near_chance(path, 0, number) for number in (0, 1, 2, 3, 4)]
+[(1, 1), (1, 2), (2, 3), (3, 5), (3, 5)]
+""",
 }

@@ -1,9 +1,14 @@
 """The functions of the interface that have landed: their parameters, and arguments that fit."""
 
-from everypairing import barriers, ears_covered, ears_odd, greatest, lots, shares_of_ties, sides
-from everypairing import switches, webs
+import re
 
-MODULES = (webs, greatest, lots, shares_of_ties, barriers, ears_odd, ears_covered, switches, sides)
+from everypairing import barriers, chances, counts, ears_covered, ears_odd, greatest, lots, mixtures
+from everypairing import numbered, shares_of_ties, sides, switches, webs
+
+MODULES = (
+    webs, greatest, lots, shares_of_ties, barriers, ears_odd, ears_covered, switches, sides,
+    mixtures, counts, numbered, chances,
+)
 
 # As the interface lists them; a default value stands behind "=".
 INTERFACE = {
@@ -54,6 +59,20 @@ INTERFACE = {
         short_lot_count(web) nth_short_lot(web, number) is_short_lot(web, lot)
         cover_by(web, lot) least_cover(web) blocks(web) tie_parting(web)
     """,
+    mixtures: "crossing(web, shares, lot) mixture(web, shares) is_mixture(web, shares, value)",
+    counts: """
+        pairing_counts(web) pairing_total(web) greatest_count(web) full_count(web)
+        is_even_lot(web, lot) even_lot(web) odd_lots(web)
+    """,
+    numbered: """
+        nth_pairing(web, number, size=None) pairing_rank(web, pairing, sized=False)
+        next_pairing(web, pairing, sized=False)
+    """,
+    chances: """
+        alone_chance(web, place, worth=(1, 1)) tie_chance(web, tie, worth=(1, 1))
+        chance_paper(web, place, worth=(1, 1)) is_chance_paper(web, place, value, worth=(1, 1))
+        near_chance(web, place, number, worth=(1, 1)) expected_ties(web, worth=(1, 1))
+    """,
 }
 
 FIVE = (5, ((0, 1), (0, 4), (1, 2), (2, 3), (3, 4)))
@@ -67,7 +86,8 @@ FITTING = {
     "web": FIVE, "other_web": PATH, "value": None, "pairing": ((0, 1), (2, 3)), "place": 0,
     "other_place": 1, "lot": (0, 2), "tie": (0, 1), "ties": ((0, 1), (2, 3)), "ears": EARS,
     "goal": 2, "text": "d:ab,bc", "row": (1, 2, 3, 4, 0), "other_pairing": ((1, 2), (3, 4)),
-    "switch": ("row", (2, 3, 4)), "number": 0,
+    "switch": ("row", (2, 3, 4)), "number": 0, "size": 1,
+    "sized": True, "worth": (2, 3), "shares": ((1, 2),) * 4,
 }
 TWO_SIDED = (5, ((0, 2), (0, 3), (1, 3), (1, 4)))
 SPECIAL = {
@@ -81,6 +101,8 @@ SPECIAL = {
     "covered_along": {"web": SQUARE},
     "cover_by": {"web": TWO_SIDED, "lot": ()},
 }
+for name in ("crossing", "mixture", "is_mixture"):
+    SPECIAL[name] = {"web": SQUARE}
 for name in ("sides", "greatest_lack", "short_ends", "short_lot_count", "nth_short_lot",
              "is_short_lot", "least_cover", "blocks", "tie_parting"):
     SPECIAL[name] = {"web": TWO_SIDED}
@@ -90,10 +112,8 @@ def listed():
     """The tuples (module, name, the words of the parameters) of all functions."""
     found = []
     for module, text in INTERFACE.items():
-        for entry in text.replace("\n", " ").replace(") ", ")|").split("|"):
-            if entry.strip():
-                name, rest = entry.strip().split("(", 1)
-                found.append((module, name, rest[:-1].split(", ")))
+        for name, rest in re.findall(r"(\w+)\(((?:[^()]|\([^()]*\))*)\)", text):
+            found.append((module, name, re.findall(r"\w+(?:=\([^()]*\)|=\w+)?", rest)))
     return found
 
 

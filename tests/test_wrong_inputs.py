@@ -2,12 +2,13 @@ import copy
 import unittest
 from itertools import combinations
 
-from tests import functions
+from tests import functions, plain
 from tests.functions import EARS, FIVE, PATH, SQUARE, STAR
 from tests.test_webs import NO_WEBS
-from everypairing import barriers, ears_covered, ears_odd, errors, greatest, lots, sides, switches
-from everypairing import webs
+from everypairing import barriers, chances, ears_covered, ears_odd, errors, greatest, lots, mixtures
+from everypairing import numbered, sides, switches, webs
 
+HALVES = ((1, 2),) * 4
 # What no place, lot, tie .. is, in any web of some places; [], None and the like fit nowhere.
 ODD = [None, True, False, "", "ab", [], {}, [0], [0, 1], [(0, 1)], 1.0, b"a"]
 NO_PLACE = ODD + [-1, 5, 12, 10 ** 80, (), (0,), ((0, 1),)]
@@ -20,6 +21,15 @@ WRONG = {
     "other_web": NO_WEBS,
     "pairing": NO_TIES + [((0, 1), (1, 2))],
     "other_pairing": NO_TIES + [((0, 1), (1, 2))],
+    "size": [value for value in ODD if value is not None] + [-1, -10 ** 80, (), (0,), "0"],
+    "worth": ODD + [0, 1, (), (1,), (1, 1, 1), (0, 1), (1, 0), (-1, 1), (1, -1), (2, 2), (1001, 1),
+                    (1, 1001), (10 ** 80, 1), (True, 1), (1, True), [1, 1], ("1", 1), ((1, 1),), (None, 1)],
+    "shares": ODD + [0, (), HALVES[:3], HALVES * 2, list(HALVES), HALVES[:3] + ((2, 4),),
+                     HALVES[:3] + ([1, 2],), HALVES[:3] + ((1, 3),), HALVES[:3] + ((1, 2, 0),),
+                     ((1, 1),) * 4, ((0, 1),) * 4, ((3, 2), (-1, 2), (-1, 2), (3, 2)), ((1, -2),) * 4,
+                     ((-1, -2),) * 4, ((True, 1), (0, 1), (0, 1), (1, 1)), ((1, True), (0, 1), (0, 1), (1, 1)),
+                     ((1, 1), (0, 2), (0, 1), (1, 1)), ((1, 1), (0, 0), (0, 1), (1, 1)), (None,) * 4,
+                     ((1, 1), 0, 0, (1, 1)), ((1, 1), (False, 1), (0, 1), (1, 1)), (("1", 2),) * 4, (1, 0, 0, 1)],
     "number": ODD + [-1, -10 ** 80, (), (0,), "0", ((0, 1),)],
     "switch": ODD + [0, (), ("row",), ("row", (2, 3, 4), ()), ["row", (2, 3, 4)],
                      ("row", [2, 3, 4]), ("round", (2, 3, 4)), ("row", (4, 3, 2)), (b"row", (2, 3, 4)),
@@ -44,8 +54,14 @@ ERRORS = {
     "place": "InvalidPlace", "goal": "InvalidPlace", "other_place": "InvalidPlace",
     "lot": "InvalidLot", "tie": "InvalidTie", "ties": "InvalidTies", "row": "InvalidRow",
     "ears": "InvalidEars", "text": "InvalidText", "other_pairing": "InvalidPairing",
-    "number": "InvalidCount", "switch": "InvalidSwitch",
+    "number": "InvalidCount", "switch": "InvalidSwitch", "size": "InvalidCount",
+    "worth": "InvalidWeights", "shares": "InvalidShares",
 }
+# Nothing is raised for these.
+FREE = ("value", "sized")
+
+NINE = plain.ring(9)
+DENSE = plain.all_tied(12)
 
 
 def wrong_for(function, name):
@@ -76,7 +92,7 @@ class WrongInputs(unittest.TestCase):
     def test_each_wrong_parameter(self):
         for function, names, fitting in functions.calls():
             for at, name in enumerate(names):
-                if name == "value":
+                if name in FREE:
                     continue
                 for value in wrong_for(function, name):
                     arguments = fitting[:at] + [value] + fitting[at + 1:]
@@ -85,7 +101,7 @@ class WrongInputs(unittest.TestCase):
 
     def test_two_wrong_ones_at_once(self):
         for function, names, fitting in functions.calls():
-            spots = [at for at, name in enumerate(names) if name != "value"]
+            spots = [at for at, name in enumerate(names) if name not in FREE]
             for first, second in combinations(spots, 2):
                 for value in wrong_for(function, names[first])[:8]:
                     for other in wrong_for(function, names[second])[:8]:
@@ -100,9 +116,11 @@ class WrongInputs(unittest.TestCase):
             deep = [deep, (0,)]
         values = NO_WEBS + NO_TIES + NO_LOT + NO_PLACE + [deep, tuple(range(7999)), "a" * 20000]
         for function, names, fitting in functions.calls():
-            if names[-1] == "value":
+            if "value" in names:
+                at = names.index("value")
                 for value in values:
-                    self.assertIs(function(*(fitting[:-1] + [value])) in (True, False), True)
+                    told = function(*(fitting[:at] + [value] + fitting[at + 1:]))
+                    self.assertIs(told in (True, False), True)
         for value in values:
             for place in (0, 4):
                 if value != EARS:
@@ -166,6 +184,22 @@ class WrongInputs(unittest.TestCase):
             (sides.cover_by, [FIVE, (4,)], "NotTwoSided"),
             (sides.cover_by, [SQUARE, (0,)], "NotShort"),
             (sides.partners, [FIVE, (5,)], "InvalidLot"),
+            (mixtures.crossing, [SQUARE, HALVES[:3], (4,)], "InvalidShares"),
+            (mixtures.crossing, [SQUARE, HALVES, (4,)], "InvalidLot"),
+            (mixtures.mixture, [(9, ()), ()], "InvalidShares"),
+            (mixtures.mixture, [NINE, ((1, 2),) * 9], "TooMany"),
+            (mixtures.mixture, [FIVE, ((1, 2),) * 5], "NotMixture"),
+            (numbered.nth_pairing, [PATH, -1, -1], "InvalidCount"),
+            (numbered.pairing_rank, [PATH, ((0, 2),), None], "InvalidPairing"),
+            (chances.chance_paper, [DENSE, 0, (0, 1)], "InvalidWeights"),
+            (chances.chance_paper, [DENSE, 12, (0, 1)], "InvalidPlace"),
+            (chances.chance_paper, [DENSE, 0], "TooMany"),
+            (chances.near_chance, [DENSE, 0, -1, (0, 1)], "InvalidCount"),
+            (chances.near_chance, [DENSE, 0, 5, (0, 1)], "InvalidWeights"),
+            (chances.near_chance, [DENSE, 0, 5], "TooMany"),
+            (chances.is_chance_paper, [DENSE, 0, None, (0, 1)], "InvalidWeights"),
+            (chances.alone_chance, [DENSE, 12, (0, 1)], "InvalidPlace"),
+            (chances.tie_chance, [DENSE, (0, 12), (0, 1)], "InvalidTie"),
             (greatest.lengthened, [PATH, ((0, 2),), ()], "InvalidPairing"),
             (greatest.lengthened, [PATH, ((0, 1),), ()], "InvalidRow"),
         ]
@@ -180,6 +214,10 @@ class WrongInputs(unittest.TestCase):
             (barriers.barriers, [(9, ())], "count", 8),
             (webs.beside, [(12, ()), (1, ())], "count", 12),
             (switches.small_classes, [(9, ())], "count", 8),
+            (mixtures.mixture, [NINE, ((1, 2),) * 9], "count", 8),
+            (mixtures.mixture, [FIVE, ((1, 2),) * 5], "lot", (0, 1, 2, 3, 4)),
+            (chances.chance_paper, [DENSE, 0], "count", 400),
+            (chances.near_chance, [DENSE, 0, 5], "count", 400),
             (switches.small_row, [(12, ()), (), ()], "count", 8),
             (ears_covered.takes_ear, [PATH, 0, 1], "tie", (1, 2)),
             (ears_covered.takes_ear, [(3, ()), 0, 1], "tie", ()),
