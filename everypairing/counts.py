@@ -58,12 +58,11 @@ def odd_lots(web):
 
 
 def _reduced(web):
-    """The list of the tuples (places, lot) of masks, as many as places, by which lots are told.
+    """The list of tuples (places, lot) of masks, as many as the web has places.
 
-    places are those with which the lot is tied an odd number of times. At first these are the
-    lots of one place; then they are put together (what two have in common falls out of both
-    masks), until each place is among the places of one lot at the most, or of no lot that could
-    have it alone.
+    places are those that are tied with an odd number of places of the lot. At first the lots are
+    those of one place. Then two of them are put together again and again, so that places that
+    both have fall out, until each place stands in the places of one lot alone if it can.
     """
     rows = [(places, 1 << place) for place, places in enumerate(near_masks(web))]
     done = []

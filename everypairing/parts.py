@@ -52,10 +52,10 @@ def pairing_leaving(near, mask, place):
 
 def is_covered_mask(near, mask):
     """Whether the web of the places of the mask is covered; near has ties within it alone."""
-    # A joined web of one place has no full pairing.
-    if mask == 0 or piece_mask(near, mask, mask.bit_length() - 1) != mask:
+    if piece_mask(near, mask, mask.bit_length() - 1) != mask:
         return False
     mates, ways = greatest_mates(near, mask)
+    # A web of one place is joined, too, but has no full pairing.
     if ways:
         return False
     return all([

@@ -177,8 +177,8 @@ def _parts(n, pairing, other_pairing):
     rounds = []
     for place in range(n):
         if place not in seen and mates[place] is not None:
-            least, most = sorted([mates[place], other_mates[place]])
-            turns = (mates, other_mates) if mates[place] == least else (other_mates, mates)
+            second = min(mates[place], other_mates[place])
+            turns = (mates, other_mates) if mates[place] == second else (other_mates, mates)
             places = _walked(place, turns)
             rounds.append(("round", places))
             seen.update({passed: True for passed in places})

@@ -6,7 +6,7 @@ from everypairing import ears_covered as module
 from everypairing.barriers import place_classes
 from everypairing.ears_odd import is_near_full, lumps
 from everypairing.errors import InvalidPairing, NotCovered
-from everypairing.greatest import greatest_pairing
+from everypairing.greatest import greatest_pairing, greatest_size
 from everypairing.shares_of_ties import greatest_with, idle_ties, is_covered
 from everypairing.webs import pieces, renamed
 
@@ -102,6 +102,24 @@ class Ears(unittest.TestCase):
                         if x != y:
                             self.assertIs(module.takes_ear(web, x, y), y not in lot)
 
+    def test_g3_two_ears(self):
+        together = 0
+        webs = covered_webs(13, 12) + [TWO12, plain.ring(12), plain.ring(10)]
+        webs += [web for web in plain.chance_webs(12, 12, 13) if is_covered(web)][:4]
+        for web in webs:
+            n, ties = web
+            alone = [(x, y) for x, y in plain.possible_ties(n)
+                     if (x, y) not in ties and not module.takes_ear(web, x, y)]
+            for one in alone[:9]:
+                for two in alone[::3]:
+                    if not set(one) & set(two):
+                        both = (n, tuple(sorted(ties + (one, two))))
+                        rest = plain.without(web, one + two)
+                        whole = rest is None or 2 * greatest_size(rest) == n - 4
+                        together += whole
+                        self.assertIs(is_covered(both), whole)
+        self.assertGreater(together, 20)
+
     def test_many_places(self):
         self.assertIs(module.takes_ear(plain.ring(12), 0, 2), False)
         self.assertIs(module.takes_ear(plain.ring(12), 0, 1), True)
@@ -186,8 +204,13 @@ class Buildings(unittest.TestCase):
             self.assertIs(is_covered(sub_web(there, used)), True)
         self.assertEqual(sorted(used), list(web[1]))
 
-    def test_one_ear_a_stage_in_two_sided_webs(self):
-        """G4: not promised of a free building, but four places all tied have none."""
+    def test_g4_one_ear_a_stage(self):
+        two_sided = [web for web in plain.two_sided_webs(14, 300) if is_covered(web)]
+        self.assertGreater(len(two_sided), 8)
+        for web in two_sided + [TWO12]:
+            single = module.covered_ears(web, web[1][0])
+            self.assertEqual({len(stage) for stage in single} <= {1}, True)
+            self.assertIs(module.is_covered_ears(web, web[1][0], single), True)
         ears = [(0, 2), (1, 3), (0, 3), (1, 2), (0, 2, 3, 1), (0, 3, 2, 1), (1, 2, 3, 0)]
         for many in range(4):
             for some in permutations(ears, many):

@@ -130,6 +130,22 @@ class Difference(unittest.TestCase):
                         here = module.switched(web, here, part)
                     self.assertEqual(here, other)
 
+    def test_h3_one_place_for_one(self):
+        for web in webs(16, 8):
+            found = some(plain.greatest(web), 8, 16)
+            for pairing in found:
+                here = set(plain.alone(web, pairing))
+                for other in found:
+                    there = set(plain.alone(web, other))
+                    ends = set()
+                    for kind, places in module.difference(web, pairing, other):
+                        after = set(plain.alone(web, module.switched(web, pairing, (kind, places))))
+                        self.assertEqual(len(here - after), int(kind == "row"))
+                        self.assertEqual(len(after - here), int(kind == "row"))
+                        if kind == "row":
+                            ends |= {places[0], places[-1]}
+                    self.assertEqual(ends, here ^ there)
+
     def test_told(self):
         six = plain.all_tied(6)
         self.assertEqual(module.difference(six, (), ((2, 5),)), [("row", (2, 5))])
@@ -158,6 +174,8 @@ class Switches(unittest.TestCase):
         kind, row = switch
         bent = [(kind, row[::-1]), (kind, row[1:] + row[:1]), (kind, row[:-1]), (kind, row[1:]),
                 (kind, row + row[:1]), ("row" if kind == "round" else "round", row)]
+        turned = [row[at:] + row[:at] for at in range(len(row))]
+        bent += [(kind, one) for way in turned for one in (way, way[::-1], way + way)]
         bent += [(kind, row[:at] + (x,) + row[at + 1:])
                  for at in range(len(row)) for x in range(web[0] + 1)]
         for value in bent:
@@ -188,6 +206,10 @@ class Switches(unittest.TestCase):
             ("row", (2, 3, 4, 3, 2)), ("row", (2, True, 4)), ("row", "cde"),
         ]:
             self.refused(LINE, here, value)
+        # Places twice: a round gone along twice, and a row that meets itself.
+        self.refused(plain.ring(4), ((0, 1), (2, 3)), ("round", (0, 1, 2, 3) * 2))
+        ties = ((0, 1), (1, 2), (1, 4), (2, 3), (3, 4))
+        self.refused((5, ties), ((1, 2), (3, 4)), ("row", (0, 1, 2, 3, 4, 1, 2)))
         # The ends alone are wrong: 0 has a mate, and both ends' ties are of the pairing.
         self.refused(plain.line(4), ((0, 1), (2, 3)), ("row", (1, 2, 3)))
         self.refused(plain.line(4), ((0, 1), (2, 3)), ("row", (0, 1, 2, 3)))
@@ -407,6 +429,16 @@ class Small(unittest.TestCase):
         self.assertEqual(module.small_classes((8, ())), [[()]])
         self.assertEqual(module.small_row((8, ()), (), ()), [])
         self.assertIsNone(module.small_row(SIX, ((0, 1), (2, 3), (4, 5)), ((0, 5), (1, 2), (3, 4))))
+
+    def test_h6_several_pieces(self):
+        for web in plain.small_webs(17, 25) + plain.chance_webs(8, 40, 17):
+            pieces = plain.pieces(web)
+            if len(pieces) > 1:
+                count = 1
+                for piece in pieces:
+                    count *= len(module.small_classes(plain.inner(web, piece)))
+                self.assertEqual(len(module.small_classes(web)), count)
+        self.assertEqual(len(module.small_classes((8, SIX[1] + ((6, 7),)))), 2)
 
     def test_too_many_places(self):
         for n in (9, 12):
