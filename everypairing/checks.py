@@ -11,6 +11,7 @@ MOST_PLACES = 12
 # Some answers are told for webs of so many places alone.
 MOST_LISTED = 8
 HIGHEST_WORTH = 1000
+HIGHEST_WEIGHT = 1000000
 
 
 # Classes are compared by name because True and False, and what derives from
@@ -157,6 +158,31 @@ def check_number(number):
     """Raise InvalidCount unless it is an integer from 0 on."""
     if not is_whole(number) or number < 0:
         raise InvalidCount("no number from 0 on")
+
+
+def check_count(web, count):
+    """Raise InvalidCount unless so many ties could be a pairing of the places of the web."""
+    check_number(count)
+    if count > web[0] // 2:
+        raise InvalidCount("too many ties for the places")
+
+
+def check_weights(web, weights):
+    """Raise InvalidWeights unless they are integers from 0 to 1,000,000, one for each tie."""
+    _check_numbers(len(web[1]), weights)
+
+
+def check_worths(web, worths):
+    """Raise InvalidWeights unless they are integers from 0 to 1,000,000, one for each place."""
+    _check_numbers(web[0], worths)
+
+
+def _check_numbers(count, numbers):
+    """Raise InvalidWeights unless they are a tuple of so many integers from 0 to 1,000,000."""
+    if not is_tuple(numbers) or len(numbers) != count:
+        raise InvalidWeights("not as many weights as are wanted")
+    if not all([is_whole(number) and 0 <= number <= HIGHEST_WEIGHT for number in numbers]):
+        raise InvalidWeights("not all weights are integers from 0 to 1,000,000")
 
 
 def check_worth(worth):

@@ -163,4 +163,19 @@ raises NotMixture((0, 1, 2))
 >>> [near_chance(path, 0, number) for number in (0, 1, 2, 3, 4)]
 [(1, 1), (1, 2), (2, 3), (3, 5), (3, 5)]
 """,
+    11: """
+>>> [heaviest(path, (1, 5, 1)), size_weights(path, (1, 5, 1)), pricing_cost(tri, (1, 1, 1), ((0, 0, 0), [((0, 1, 2), 1)]))]
+[(5, ((1, 2),)), [0, 5, 2], 1]
+>>> is_pricing(path, (1, 5, 1), ((0, 1, 4, 0), []))
+True
+>>> [mover_wins(path, (0,)), winning_moves(path, (1,)), winning_moves(tri, (0,)), winning_starts(tri), winning_starts(path)]
+[True, [0], [], [0, 1, 2], []]
+""",
+    12: """
+>>> all4 = web_told("d:ab,ac,ad,bc,bd,cd")
+>>> [leaving_lots(tri), best_leaving(tri, (1, 9, 1)), greatest_holding(path, ((1, 2),)), greatest_leaving(tri, (0,)), greatest_leaving(tri, (0, 1))]
+[[(0,), (1,), (2,)], (9, (1,)), None, ((1, 2),), None]
+>>> [lost(path, ((0, 1),)), is_loss(path, (((0, 1),), ())), unextended(path, 1), unfull_without_two(path), unfull_without_two(all4)]
+[1, True, ((1, 2),), (0, 2, (0, 2)), None]
+""",
 }

@@ -2,12 +2,12 @@
 
 import re
 
-from everypairing import barriers, chances, counts, ears_covered, ears_odd, greatest, lots, mixtures
-from everypairing import numbered, shares_of_ties, sides, switches, webs
+from everypairing import barriers, chances, counts, ears_covered, ears_odd, game, greatest, heaviest
+from everypairing import losses, lots, mixtures, numbered, shares_of_ties, sides, switches, webs
 
 MODULES = (
     webs, greatest, lots, shares_of_ties, barriers, ears_odd, ears_covered, switches, sides,
-    mixtures, counts, numbered, chances,
+    mixtures, counts, numbered, chances, heaviest, game, losses,
 )
 
 # As the interface lists them; a default value stands behind "=".
@@ -73,6 +73,16 @@ INTERFACE = {
         chance_paper(web, place, worth=(1, 1)) is_chance_paper(web, place, value, worth=(1, 1))
         near_chance(web, place, number, worth=(1, 1)) expected_ties(web, worth=(1, 1))
     """,
+    heaviest: """
+        heaviest(web, weights) size_weights(web, weights) is_pricing(web, weights, value)
+        pricing_cost(web, weights, value) pricing(web, weights)
+    """,
+    game: "mover_wins(web, walk) winning_moves(web, walk) winning_starts(web) guide(web, walk)",
+    losses: """
+        greatest_holding(web, pairing) greatest_leaving(web, lot) leaving_lots(web)
+        best_leaving(web, worths) lost(web, ties) least_loss(web) is_loss(web, value)
+        unextended(web, count) unfull_without_two(web)
+    """,
 }
 
 FIVE = (5, ((0, 1), (0, 4), (1, 2), (2, 3), (3, 4)))
@@ -87,7 +97,8 @@ FITTING = {
     "other_place": 1, "lot": (0, 2), "tie": (0, 1), "ties": ((0, 1), (2, 3)), "ears": EARS,
     "goal": 2, "text": "d:ab,bc", "row": (1, 2, 3, 4, 0), "other_pairing": ((1, 2), (3, 4)),
     "switch": ("row", (2, 3, 4)), "number": 0, "size": 1,
-    "sized": True, "worth": (2, 3), "shares": ((1, 2),) * 4,
+    "sized": True, "worth": (2, 3), "shares": ((1, 2),) * 4, "weights": (3, 0, 1, 1000000, 2),
+    "walk": (1, 2, 3), "worths": (0, 1, 1000000, 1, 5), "count": 1,
 }
 TWO_SIDED = (5, ((0, 2), (0, 3), (1, 3), (1, 4)))
 SPECIAL = {
@@ -100,6 +111,9 @@ SPECIAL = {
     "covered_ears": {"web": SQUARE},
     "covered_along": {"web": SQUARE},
     "cover_by": {"web": TWO_SIDED, "lot": ()},
+    "pricing_cost": {"value": ((3, 0, 1000000, 0, 2), [((0, 1, 2), 1)])},
+    "unextended": {"web": PATH},
+    "unfull_without_two": {"web": PATH},
 }
 for name in ("crossing", "mixture", "is_mixture"):
     SPECIAL[name] = {"web": SQUARE}

@@ -19,7 +19,8 @@ VALUES = [0, -3, 10 ** 80, None, True, "text", "", (), (0, 1), [], [[1], (2,)], 
 
 class Functions(unittest.TestCase):
     def test_all_stand_in_their_files(self):
-        self.assertEqual(len(functions.listed()), 14 + 10 + 4 + 14 + 11 + 10 + 8 + 12 + 12 + 3 + 7 + 3 + 6)
+        parts = [14, 10, 4, 14, 11, 10, 8, 12, 12, 3, 7, 3, 6, 5, 4, 9]
+        self.assertEqual(len(functions.listed()), sum(parts))
         for module, name, words in functions.listed():
             function = getattr(module, name)
             self.assertTrue(inspect.isfunction(function))

@@ -8,8 +8,8 @@ from everypairing import barriers, ears_odd, errors, greatest, lots, shares_of_t
 # "Within some seconds" on a machine that may run other tests at the same time.
 SECONDS = 5
 # What raises TooMany for webs of 11 and 12 places, and what may.
-BOUNDED = ("barriers", "beside", "small_classes", "small_row")
-SOMETIMES_BOUNDED = ("mixture", "chance_paper", "near_chance")
+BOUNDED = ("barriers", "beside", "small_classes", "small_row", "pricing", "least_loss")
+SOMETIMES_BOUNDED = ("mixture", "chance_paper", "near_chance", "unextended", "unfull_without_two")
 
 
 def webs_of(n):
@@ -56,7 +56,12 @@ class Speed(unittest.TestCase):
             "row": tuple(range(web[0]))[::-1], "other_pairing": other_greatest(web), "number": 3,
             "switch": any_switch(web, pairing), "size": 4, "sized": True, "worth": (999, 1000),
             "shares": mean_shares(web) if greatest.spare(web) == 0 else (),
+            "weights": tuple(999983 * at * at for at in range(len(web[1]))),
+            "worths": tuple(999983 * at * at for at in range(web[0])), "count": 3,
+            "walk": (web[1][0] if web[1] else (0,)),
         }
+        for name in ("weights", "worths"):
+            fitting[name] = tuple(number - number // 1000001 * 1000001 for number in fitting[name])
         return [fitting[name] for name in names]
 
     def test_large_webs_are_answered_soon(self):

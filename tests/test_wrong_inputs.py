@@ -5,8 +5,8 @@ from itertools import combinations
 from tests import functions, plain
 from tests.functions import EARS, FIVE, PATH, SQUARE, STAR
 from tests.test_webs import NO_WEBS
-from everypairing import barriers, chances, ears_covered, ears_odd, errors, greatest, lots, mixtures
-from everypairing import numbered, sides, switches, webs
+from everypairing import barriers, chances, ears_covered, ears_odd, errors, greatest, heaviest
+from everypairing import losses, lots, mixtures, numbered, sides, switches, webs
 
 HALVES = ((1, 2),) * 4
 # What no place, lot, tie .. is, in any web of some places; [], None and the like fit nowhere.
@@ -30,6 +30,12 @@ WRONG = {
                      ((-1, -2),) * 4, ((True, 1), (0, 1), (0, 1), (1, 1)), ((1, True), (0, 1), (0, 1), (1, 1)),
                      ((1, 1), (0, 2), (0, 1), (1, 1)), ((1, 1), (0, 0), (0, 1), (1, 1)), (None,) * 4,
                      ((1, 1), 0, 0, (1, 1)), ((1, 1), (False, 1), (0, 1), (1, 1)), (("1", 2),) * 4, (1, 0, 0, 1)],
+    "weights": ODD + [0, (), (1,) * 4, (1,) * 6, [1] * 5, (1, 1, -1, 1, 1), (1, 1, 1000001, 1, 1),
+                      (1, 1, True, 1, 1), (False, 1, 1, 1, 1), (1, 1, 1, 1, None), ("1",) * 5,
+                      (1, 1, 1, 1, (1,)), ((1, 1),) * 5, (10 ** 80,) * 5],
+    "walk": ODD + [0, (), [1, 2], (1, 1), (1, 2, 1), (1, 3), (1, 2, 4), (5,), (-1,), (True,),
+                   (0, True), (False, 1), (0, 1, None), ("1",), ((1, 2),), ([1],), (0, 1, 2, 3, 4, 0)],
+    "count": ODD + [-1, 3, 12, 10 ** 80, -10 ** 80, (), (1,), "1"],
     "number": ODD + [-1, -10 ** 80, (), (0,), "0", ((0, 1),)],
     "switch": ODD + [0, (), ("row",), ("row", (2, 3, 4), ()), ["row", (2, 3, 4)],
                      ("row", [2, 3, 4]), ("round", (2, 3, 4)), ("row", (4, 3, 2)), (b"row", (2, 3, 4)),
@@ -49,13 +55,15 @@ WRONG = {
     "ears": ODD + [0, (), tuple(EARS), [()], [(0, 1)], EARS + EARS, [list(EARS[0])]],
     "text": [None, True, 0, [], (), ("d:ab",), b"d:", {}, "", "x", "d", "d:x", "d:ab,", "d:ab,ab"],
 }
+WRONG["worths"] = WRONG["weights"]
 ERRORS = {
     "web": "InvalidWeb", "other_web": "InvalidWeb", "pairing": "InvalidPairing",
     "place": "InvalidPlace", "goal": "InvalidPlace", "other_place": "InvalidPlace",
     "lot": "InvalidLot", "tie": "InvalidTie", "ties": "InvalidTies", "row": "InvalidRow",
     "ears": "InvalidEars", "text": "InvalidText", "other_pairing": "InvalidPairing",
     "number": "InvalidCount", "switch": "InvalidSwitch", "size": "InvalidCount",
-    "worth": "InvalidWeights", "shares": "InvalidShares",
+    "worth": "InvalidWeights", "shares": "InvalidShares", "weights": "InvalidWeights",
+    "worths": "InvalidWeights", "walk": "InvalidWalk", "count": "InvalidCount",
 }
 # Nothing is raised for these.
 FREE = ("value", "sized")
@@ -119,6 +127,10 @@ class WrongInputs(unittest.TestCase):
             if "value" in names:
                 at = names.index("value")
                 for value in values:
+                    if function is heaviest.pricing_cost:
+                        with self.assertRaises(errors.InvalidPricing):
+                            function(*(fitting[:at] + [value] + fitting[at + 1:]))
+                        continue
                     told = function(*(fitting[:at] + [value] + fitting[at + 1:]))
                     self.assertIs(told in (True, False), True)
         for value in values:
@@ -204,6 +216,20 @@ class WrongInputs(unittest.TestCase):
             (chances.is_chance_paper, [DENSE, 0, None, (0, 1)], "InvalidWeights"),
             (chances.alone_chance, [DENSE, 12, (0, 1)], "InvalidPlace"),
             (chances.tie_chance, [DENSE, (0, 12), (0, 1)], "InvalidTie"),
+            (heaviest.pricing, [NINE, (1,) * 8], "InvalidWeights"),
+            (heaviest.pricing, [NINE, (1,) * 9], "TooMany"),
+            (heaviest.pricing_cost, [NINE, (1,) * 8, None], "InvalidWeights"),
+            (heaviest.pricing_cost, [NINE, (1,) * 9, None], "InvalidPricing"),
+            (losses.least_loss, [(9, ((8, 9),))], "InvalidWeb"),
+            (losses.least_loss, [(9, ())], "TooMany"),
+            (losses.unextended, [STAR, 3], "InvalidCount"),
+            (losses.unextended, [STAR, 2], "NotFull"),
+            (losses.unextended, [NINE, 1], "NotFull"),
+            (losses.unextended, [DENSE, 7], "InvalidCount"),
+            (losses.unextended, [DENSE, 6], "TooMany"),
+            (losses.unfull_without_two, [(9, ((8, 9),))], "InvalidWeb"),
+            (losses.unfull_without_two, [NINE], "NotFull"),
+            (losses.unfull_without_two, [DENSE], "TooMany"),
             (greatest.lengthened, [PATH, ((0, 2),), ()], "InvalidPairing"),
             (greatest.lengthened, [PATH, ((0, 1),), ()], "InvalidRow"),
         ]
@@ -227,6 +253,12 @@ class WrongInputs(unittest.TestCase):
             (ears_covered.takes_ear, [(3, ()), 0, 1], "tie", ()),
             (switches.switch_at, [PATH, ((0, 1),), (0, 1)], "row", (2, 3)),
             (webs.web_told, [7], "index", 0),
+            (heaviest.pricing, [NINE, (1,) * 9], "count", 8),
+            (losses.least_loss, [(12, ())], "count", 8),
+            (losses.unextended, [STAR, 2], "lot", (0,)),
+            (losses.unfull_without_two, [STAR], "lot", (0,)),
+            (losses.unextended, [DENSE, 6], "count", 8),
+            (losses.unfull_without_two, [DENSE], "count", 8),
         ]:
             with self.assertRaises(errors.PairError) as caught:
                 function(*arguments)
