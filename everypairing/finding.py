@@ -92,6 +92,17 @@ def paired_whole(near, mask, mates):
     return (mates, all_ways)
 
 
+def longer_row_of(near, mask, mates):
+    """A longer row of the pairing within the mask; None if there is none."""
+    for place in places_in(mask):
+        if mates[place] is None:
+            row, _, met = grown(near, mask, mates, place)
+            if row is not None:
+                return row
+            mask &= ~met
+    return None
+
+
 def exchanged_mates(mates, row):
     """The list of the mates when a longer row, or a way, is exchanged."""
     changed = list(mates)

@@ -3,7 +3,7 @@
 from everypairing.checks import check_lot, check_pairing, check_web
 from everypairing.checks import fits_place, is_tuple
 from everypairing.errors import InvalidRow
-from everypairing.finding import greatest_mates, grown, paired_whole, spare_of, ties_of
+from everypairing.finding import greatest_mates, longer_row_of, paired_whole, spare_of, ties_of
 from everypairing.masks import all_places, mask_of, near_masks, odd_piece_masks, places_in
 from everypairing.parts import three_masks
 from everypairing.rows import exchanged, mates_in, ties_along
@@ -39,16 +39,7 @@ def longer_row(web, pairing):
     """A longer row of the pairing; None if there is none."""
     check_web(web)
     check_pairing(web, pairing)
-    near = near_masks(web)
-    mates = mates_in(web[0], pairing)
-    mask = all_places(web)
-    for place in range(web[0]):
-        if mates[place] is None:
-            row, _, met = grown(near, mask, mates, place)
-            if row is not None:
-                return row
-            mask &= ~met
-    return None
+    return longer_row_of(near_masks(web), all_places(web), mates_in(web[0], pairing))
 
 
 def is_longer_row(web, pairing, value):

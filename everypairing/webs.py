@@ -9,8 +9,7 @@ from everypairing.errors import InvalidLot, InvalidRow, InvalidText, InvalidTie
 from everypairing.masks import all_places, mask_of, near_masks
 from everypairing.masks import odd_piece_masks, piece_masks, places_in
 from everypairing.rows import mates_in, tie_of
-
-LETTERS = "abcdefghijkl"
+from everypairing.texts import possible_ties, told_web, web_part_text
 
 
 def is_web(value):
@@ -108,55 +107,17 @@ def mirrored(web):
     """The web in which just those unlike places are tied that are not tied in this one."""
     check_web(web)
     n, ties = web
-    return (n, tuple([tie for tie in _possible_ties(n) if tie not in ties]))
+    return (n, tuple([tie for tie in possible_ties(n) if tie not in ties]))
 
 
 def web_text(web):
     """The text of the web."""
     check_web(web)
-    n, ties = web
-    words = [LETTERS[x] + LETTERS[y] for x, y in ties]
-    return LETTERS[n - 1] + ":" + ",".join(words)
+    return web_part_text(web)
 
 
 def web_told(text):
     """The web with this text."""
-    if not is_text(text) or text == "" or text[0] not in LETTERS:
+    if not is_text(text):
         raise InvalidText(0)
-    if text[1:2] != ":":
-        raise InvalidText(1)
-    n = LETTERS.index(text[0]) + 1
-    return (n, _told_ties(text, 2, _possible_ties(n)))
-
-
-def _possible_ties(n):
-    """The ascending list of all ties that a web of n places could have."""
-    return [(x, y) for x in range(n) for y in range(x + 1, n)]
-
-
-def _told_ties(text, start, left):
-    """The tuple of the ties that the text tells from the index start on, out of those left."""
-    ties = []
-    at = start
-    while at < len(text):
-        # Only ties behind the last one may follow, so a comma with none left is wrong itself.
-        if ties:
-            if text[at] != "," or not left:
-                raise InvalidText(at)
-            at += 1
-        tie = _told_tie(text, at, left)
-        ties.append(tie)
-        left = [other for other in left if other > tie]
-        at += 2
-    return tuple(ties)
-
-
-def _told_tie(text, at, left):
-    """The tie that the text tells at the index, out of those left."""
-    fitting = left
-    for end in (0, 1):
-        letter = text[at + end:at + end + 1]
-        fitting = [tie for tie in fitting if LETTERS[tie[end]] == letter]
-        if not fitting:
-            raise InvalidText(at + end)
-    return fitting[0]
+    return told_web(text, "")[0]

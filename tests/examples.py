@@ -178,4 +178,62 @@ True
 >>> [lost(path, ((0, 1),)), is_loss(path, (((0, 1),), ())), unextended(path, 1), unfull_without_two(path), unfull_without_two(all4)]
 [1, True, ((1, 2),), (0, 2, (0, 2)), None]
 """,
+    13: """
+>>> [stretched((2, ((0, 1),)), (0, 1)), doubled(star, 0, (1, 2))]
+[(4, ((0, 2), (1, 3), (2, 3))), (6, ((0, 3), (0, 5), (1, 4), (2, 4), (4, 5)))]
+>>> [web_text(put_in(path, 1, (2, ()))), web_text(drawn(path, (0, 2))), web_text(joined_webs((1, ()), (2, ())))]
+['e:ad,ae,bc,bd,be', 'c:ac,bc', 'c:ab,ac']
+>>> to_doubled(star, 0, (1, 2), ((0, 2),))
+((0, 5), (2, 4))
+>>> from_doubled(star, 0, (1, 2), ((0, 3), (1, 4)))
+((0, 3),)
+>>> kernel(star)
+(None, [('hanging', 1, 0), ('alone', 0), ('alone', 0)])
+>>> kernel(web_told("d:ab,ad,bc,cd"))
+(None, [('drawn', 0, 1, 3), ('hanging', 0, 1)])
+>>> from_drawn(web_told("d:ab,ac,bc,cd"), (0, 1, 2), ((0, 1),))
+((0, 1), (2, 3))
+>>> from_drawn(path, (0, 1, 2), ())
+raises NotNearFull(1)
+""",
+    14: """
+>>> live = Live(path)
+>>> [live.pairing, live.untie(0, 1), live.sizes(), live.row(0), live.lots()]
+[((0, 1), (2, 3)), None, [2, 1], (), ((0, 1, 3), (2,), ())]
+>>> [live.come((0, 3)), len(live.row(1)) > 0, live.sizes(), live.next_mark]
+[4, True, [2, 1, 2], 5]
+>>> [live.release(0), (0 in [mark for pair in live.pairing for mark in pair]), live.undo()]
+[None, False, ('release', 0)]
+>>> live.choose(2, 1), live.would(("leave", 2))[0]
+(None, 1)
+>>> live.tie(2, 3)
+raises Refused
+>>> pins = PinnedLive(path)
+>>> [pins.pin(0, 1), pins.pinned(), pins.double(0, (1,)), pins.pinned()]
+[None, [(0, 1)], (4, 5), [(1, 4)]]
+>>> pins.choose(1, 2)
+raises Refused
+>>> two = PinnedLive(web_told("b:ab"))
+>>> [two.pin(0, 1), two.come((0,)), two.may_leave(2), two.pinned()]
+[None, 2, True, [(0, 1)]]
+>>> two.come((1,))
+raises Refused
+""",
+    15: """
+>>> [paper_text(star, ((0, 2),), (0,)), paper_told("d:ab,bc,cd;ab,cd;")]
+['d:ab,ac,ad;ac;a', ((4, ((0, 1), (1, 2), (2, 3))), ((0, 1), (2, 3)), ())]
+>>> paper_told("d:ab,ac,ad;ab,ac;")
+raises InvalidText(14)
+>>> paper_told("d:ab,ac,ad;ab,aa;")
+raises InvalidText(15)
+>>> paper_text(star, ((0, 2),), ())
+raises NotMeeting(2)
+>>> console = Console()
+>>> console.execute("run web a d:ab,bc,cd; pairing; come 0; sizes; lots; journal")
+'ok; 0-1 2-3; 4; 2 2; 1+3+4 0+2 none; web a d:ab,bc,cd; come 0'
+>>> [console.execute("paper"), console.execute("may 4"), console.execute("undo"), console.execute("alone")]
+['e:ab,ae,bc,cd;ab,cd;ac', 'yes', 'come 0', 'none']
+>>> console.execute("pin 0 1")
+raises Refused
+""",
 }

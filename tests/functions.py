@@ -1,13 +1,17 @@
-"""The functions of the interface that have landed: their parameters, and arguments that fit."""
+"""The functions of the interface: their parameters, and arguments that fit.
+
+replay and the classes are tested by test_live and test_console.
+"""
 
 import re
 
 from everypairing import barriers, chances, counts, ears_covered, ears_odd, game, greatest, heaviest
-from everypairing import losses, lots, mixtures, numbered, shares_of_ties, sides, switches, webs
+from everypairing import joining, losses, lots, mixtures, numbered, paper_texts, shares_of_ties, sides
+from everypairing import switches, webs
 
 MODULES = (
     webs, greatest, lots, shares_of_ties, barriers, ears_odd, ears_covered, switches, sides,
-    mixtures, counts, numbered, chances, heaviest, game, losses,
+    mixtures, counts, numbered, chances, heaviest, game, losses, joining, paper_texts,
 )
 
 # As the interface lists them; a default value stands behind "=".
@@ -83,6 +87,14 @@ INTERFACE = {
         best_leaving(web, worths) lost(web, ties) least_loss(web) is_loss(web, value)
         unextended(web, count) unfull_without_two(web)
     """,
+    joining: """
+        joined_webs(web, other_web) put_in(web, place, other_web) stretched(web, tie)
+        doubled(web, place, lot) drawn(web, lot) to_stretched(web, tie, pairing)
+        from_stretched(web, tie, new_pairing) to_doubled(web, place, lot, pairing)
+        from_doubled(web, place, lot, new_pairing) from_drawn(web, lot, new_pairing) kernel(web)
+        from_kernel(web, new_pairing)
+    """,
+    paper_texts: "paper_text(web, pairing, lot) paper_told(text)",
 }
 
 FIVE = (5, ((0, 1), (0, 4), (1, 2), (2, 3), (3, 4)))
@@ -99,6 +111,7 @@ FITTING = {
     "switch": ("row", (2, 3, 4)), "number": 0, "size": 1,
     "sized": True, "worth": (2, 3), "shares": ((1, 2),) * 4, "weights": (3, 0, 1, 1000000, 2),
     "walk": (1, 2, 3), "worths": (0, 1, 1000000, 1, 5), "count": 1,
+    "new_pairing": ((1, 2), (3, 4)),
 }
 TWO_SIDED = (5, ((0, 2), (0, 3), (1, 3), (1, 4)))
 SPECIAL = {
@@ -114,6 +127,13 @@ SPECIAL = {
     "pricing_cost": {"value": ((3, 0, 1000000, 0, 2), [((0, 1, 2), 1)])},
     "unextended": {"web": PATH},
     "unfull_without_two": {"web": PATH},
+    "doubled": {"lot": (1, 4)},
+    "to_doubled": {"lot": (1, 4)},
+    "from_doubled": {"lot": (1, 4)},
+    "from_drawn": {"lot": (0,)},
+    "from_kernel": {"new_pairing": ()},
+    "paper_text": {"lot": ()},
+    "paper_told": {"text": "d:ab,bc,cd;ab,cd;"},
 }
 for name in ("crossing", "mixture", "is_mixture"):
     SPECIAL[name] = {"web": SQUARE}

@@ -3,7 +3,7 @@ import unittest
 
 from tests.examples import EXAMPLES
 from tests.functions import MODULES
-from everypairing import errors
+from everypairing import console, errors, live
 
 DOCUMENT = os.path.join(
     os.path.dirname(os.path.abspath(__file__)), "..", "..", "shared", "DOC.md")
@@ -23,7 +23,7 @@ def told(text):
 class Examples(unittest.TestCase):
     def test_each_example(self):
         names = {"__builtins__": __builtins__}
-        for module in MODULES + (errors,):
+        for module in MODULES + (errors, live, console):
             names.update({key: value for key, value in vars(module).items()
                           if getattr(value, "__module__", None) == module.__name__})
         count = 0

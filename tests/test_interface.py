@@ -1,8 +1,9 @@
 import inspect
+import re
 import unittest
 
 from tests import functions
-from everypairing import errors
+from everypairing import console, errors, live
 
 WITH_TEXT = """
     InvalidWeb InvalidPairing InvalidTie InvalidPlace InvalidLot InvalidRow InvalidCount
@@ -19,7 +20,7 @@ VALUES = [0, -3, 10 ** 80, None, True, "text", "", (), (0, 1), [], [[1], (2,)], 
 
 class Functions(unittest.TestCase):
     def test_all_stand_in_their_files(self):
-        parts = [14, 10, 4, 14, 11, 10, 8, 12, 12, 3, 7, 3, 6, 5, 4, 9]
+        parts = [14, 10, 4, 14, 11, 10, 8, 12, 12, 3, 7, 3, 6, 5, 4, 9, 12, 2]
         self.assertEqual(len(functions.listed()), sum(parts))
         for module, name, words in functions.listed():
             function = getattr(module, name)
@@ -41,6 +42,34 @@ class Functions(unittest.TestCase):
         for function, _, arguments in functions.calls():
             if function.__name__.startswith(("is_", "are_")):
                 self.assertIsInstance(function(*arguments), bool)
+
+
+METHODS = {
+    live.Live: """
+        __init__(self, web) come(self, marks) leave(self, mark) tie(self, mark, other_mark)
+        untie(self, mark, other_mark) stretch(self, mark, other_mark) double(self, mark, marks)
+        choose(self, mark, other_mark) release(self, mark) row(self, number) sizes(self) lots(self)
+        may_pair(self, mark, other_mark) may_leave(self, mark) would(self, deed) undo(self)
+        begin(self) keep(self) drop(self) twin(self) __eq__(self, other)
+    """,
+    live.PinnedLive: "pin(self, mark, other_mark) unpin(self, mark, other_mark) pinned(self)",
+    console.Console: "__init__(self) execute(self, command)",
+}
+
+
+class Classes(unittest.TestCase):
+    def test_methods_stand_in_their_classes(self):
+        for kind, text in METHODS.items():
+            for name, words in re.findall(r"(\w+)\(([^()]*)\)", text):
+                method = vars(kind)[name]
+                self.assertEqual(str(inspect.signature(method)), "(" + words + ")")
+        self.assertEqual(live.PinnedLive.__bases__, (live.Live,))
+        for kind, module in [(live.Live, live), (live.PinnedLive, live), (console.Console, console)]:
+            self.assertEqual(kind.__module__, module.__name__)
+
+    def test_replay(self):
+        self.assertEqual(live.replay.__module__, live.__name__)
+        self.assertEqual(str(inspect.signature(live.replay)), "(web, deeds, *, pinned=False)")
 
 
 class Errors(unittest.TestCase):

@@ -39,6 +39,8 @@ WORDS = """
     typing typing_extensions enum Enum IntEnum StrEnum Flag IntFlag Generic Protocol ABC
     ABCMeta namedtuple NamedTuple TypedDict TYPE_CHECKING abstractmethod
 """.split()
+# Methods of live webs that have the names of fields of errors.
+EVERYWHERE = ("row", "tie")
 LAZY = ("zip", "enumerate", "reversed", "range", "map")
 TAKING = ("list", "tuple", "dict", "sorted", "sum", "any", "all", "enumerate", "zip", "min", "max",
           "reversed", "len", "combinations", "permutations", "product")
@@ -108,8 +110,11 @@ class Language(unittest.TestCase):
         for file in FILES:
             for node in file.all(ast.FunctionDef):
                 self.assertLessEqual(node.end_lineno - node.lineno + 1, 40, node.name)
-                self.assertIsNotNone(ast.get_docstring(node) or node.name == "__init__" or None)
-                self.assertEqual(node.decorator_list, [])
+                self.assertTrue(ast.get_docstring(node) or node.name in ("__init__", "__eq__"))
+                for decorator in node.decorator_list:
+                    self.assertEqual(decorator.id, "property")
+                    self.assertIsInstance(file.parents[node], ast.ClassDef)
+                    self.assertEqual([arg.arg for arg in node.args.args], ["self"])
                 for default in node.args.defaults + node.args.kw_defaults:
                     ast.literal_eval(default)
 
@@ -148,9 +153,19 @@ class Language(unittest.TestCase):
                     self.assertEqual(at, 0)
                 elif isinstance(node, ast.Assign):
                     self.assertIsInstance(node.targets[0], ast.Name)
-                    ast.literal_eval(node.value)
+                    self.check_plain(node.value, file.tree.body[:at])
                 else:
                     self.assertIsInstance(node, (ast.FunctionDef, ast.ClassDef, ast.ImportFrom))
+
+    def check_plain(self, value, ahead):
+        """Numbers, strings, tuples and dicts of these, or a dict of functions defined above."""
+        if isinstance(value, ast.Dict) and isinstance(value.values[0], ast.Name):
+            functions = [node.name for node in ahead if isinstance(node, ast.FunctionDef)]
+            for key, part in zip(value.keys, value.values):
+                self.assertIsInstance(key.value, str)
+                self.assertIn(part.id, functions)
+        else:
+            ast.literal_eval(value)
 
     def test_statements_and_expressions(self):
         for file in FILES:
@@ -158,8 +173,15 @@ class Language(unittest.TestCase):
                 self.assertIsInstance(node, STATEMENTS)
             # Rules that this package makes stricter for itself.
             self.assertEqual(file.all(
-                ast.GeneratorExp, ast.Yield, ast.YieldFrom, ast.Await, ast.Starred, ast.NamedExpr,
-                ast.Set, ast.SetComp, ast.Div, ast.Pow, ast.MatMult, ast.AnnAssign, ast.Try), [])
+                ast.GeneratorExp, ast.Yield, ast.YieldFrom, ast.Await, ast.NamedExpr, ast.Set,
+                ast.SetComp, ast.Div, ast.Pow, ast.MatMult, ast.AnnAssign, ast.JoinedStr), [])
+            for node in file.all(ast.Starred):
+                self.assertIsInstance(file.parents[node], ast.Call)
+                self.assertIsInstance(node.value, ast.Name)
+            for node in file.all(ast.Try):
+                self.assertEqual(node.finalbody + node.orelse, [])
+                # Own errors alone, by one name, are caught.
+                self.assertEqual([handler.type.id for handler in node.handlers], ["PairError"])
             for node in file.all(ast.Constant):
                 self.assertIsInstance(node.value, (int, str, bool, type(None)), node.value)
             for node in file.all(ast.Compare):
@@ -174,7 +196,7 @@ class Language(unittest.TestCase):
         for file in FILES:
             names = file.stored() + file.defined() + [f.name for f in file.all(ast.FunctionDef)]
             for name in names:
-                self.assertRegex(name, r"\A(_?[A-Za-z][A-Za-z0-9_]*|__init__|_)\Z")
+                self.assertRegex(name, r"\A(_?[A-Za-z][A-Za-z0-9_]*|__init__|__eq__|_)\Z")
                 self.assertNotIn(name, NEVER)
                 self.assertNotIn(name, dir(builtins))
                 self.assertFalse(name.startswith(BARRED_STARTS), name)
@@ -186,17 +208,25 @@ class Language(unittest.TestCase):
     def test_builtins(self):
         for file in FILES:
             known = set(file.stored() + file.defined() + file.imported() + BUILTINS)
+            decorators = [part for node in file.all(ast.FunctionDef) for part in node.decorator_list]
             for node in file.all(ast.Name):
-                self.assertIn(node.id, known, (file.name, node.lineno))
+                if node not in decorators:
+                    self.assertIn(node.id, known, (file.name, node.lineno))
 
     def test_methods_and_attributes(self):
         attributes = {node.attr for file in FILES for node in file.all(ast.Attribute)
                       if isinstance(node.ctx, ast.Store)}
+        parts = [node for file in FILES for node in file.all(ast.FunctionDef)
+                 if isinstance(file.parents[node], ast.ClassDef)]
+        properties = {node.name for node in parts if node.decorator_list}
+        methods = {node.name for node in parts} - properties
+        self.assertEqual(attributes & (methods | properties), set(EVERYWHERE))
+        attributes |= properties
         for file in FILES:
             for node in file.all(ast.Attribute):
                 parent = file.parents[node]
                 if isinstance(parent, ast.Call) and parent.func is node:
-                    self.assertIn(node.attr, METHODS + ["__init__"], (file.name, node.lineno))
+                    self.assertIn(node.attr, METHODS + sorted(methods), (file.name, node.lineno))
                     self.assertTrue(parent.keywords == [])
                 elif node.attr == "__class__":
                     self.assertIsInstance(node.value, ast.Name)

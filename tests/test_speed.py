@@ -8,8 +8,10 @@ from everypairing import barriers, ears_odd, errors, greatest, lots, shares_of_t
 # "Within some seconds" on a machine that may run other tests at the same time.
 SECONDS = 5
 # What raises TooMany for webs of 11 and 12 places, and what may.
-BOUNDED = ("barriers", "beside", "small_classes", "small_row", "pricing", "least_loss")
-SOMETIMES_BOUNDED = ("mixture", "chance_paper", "near_chance", "unextended", "unfull_without_two")
+BOUNDED = ("barriers", "beside", "small_classes", "small_row", "pricing", "least_loss",
+           "joined_webs", "put_in")
+SOMETIMES_BOUNDED = ("mixture", "chance_paper", "near_chance", "unextended", "unfull_without_two",
+                     "stretched", "to_stretched", "doubled", "to_doubled")
 
 
 def webs_of(n):
@@ -58,7 +60,7 @@ class Speed(unittest.TestCase):
             "shares": mean_shares(web) if greatest.spare(web) == 0 else (),
             "weights": tuple(999983 * at * at for at in range(len(web[1]))),
             "worths": tuple(999983 * at * at for at in range(web[0])), "count": 3,
-            "walk": (web[1][0] if web[1] else (0,)),
+            "walk": (web[1][0] if web[1] else (0,)), "new_pairing": (),
         }
         for name in ("weights", "worths"):
             fitting[name] = tuple(number - number // 1000001 * 1000001 for number in fitting[name])

@@ -6,7 +6,7 @@ from tests import functions, plain
 from tests.functions import EARS, FIVE, PATH, SQUARE, STAR
 from tests.test_webs import NO_WEBS
 from everypairing import barriers, chances, ears_covered, ears_odd, errors, greatest, heaviest
-from everypairing import losses, lots, mixtures, numbered, sides, switches, webs
+from everypairing import joining, losses, lots, mixtures, numbered, paper_texts, sides, switches, webs
 
 HALVES = ((1, 2),) * 4
 # What no place, lot, tie .. is, in any web of some places; [], None and the like fit nowhere.
@@ -56,6 +56,7 @@ WRONG = {
     "text": [None, True, 0, [], (), ("d:ab",), b"d:", {}, "", "x", "d", "d:x", "d:ab,", "d:ab,ab"],
 }
 WRONG["worths"] = WRONG["weights"]
+WRONG["new_pairing"] = NO_TIES + [((0, 1), (1, 2)), ((3, 7),), ((6, 7),)]
 ERRORS = {
     "web": "InvalidWeb", "other_web": "InvalidWeb", "pairing": "InvalidPairing",
     "place": "InvalidPlace", "goal": "InvalidPlace", "other_place": "InvalidPlace",
@@ -64,6 +65,7 @@ ERRORS = {
     "number": "InvalidCount", "switch": "InvalidSwitch", "size": "InvalidCount",
     "worth": "InvalidWeights", "shares": "InvalidShares", "weights": "InvalidWeights",
     "worths": "InvalidWeights", "walk": "InvalidWalk", "count": "InvalidCount",
+    "new_pairing": "InvalidPairing",
 }
 # Nothing is raised for these.
 FREE = ("value", "sized")
@@ -77,8 +79,10 @@ def wrong_for(function, name):
     values = list(WRONG[name])
     if name == "tie" and function.__name__ == "with_tie":
         values = [value for value in values if value != (0, 3)] + [(0, 1), (3, 4)]
-    if name == "lot" and function.__name__ == "inner":
+    if name == "lot" and function in (webs.inner, joining.drawn, joining.from_drawn):
         values.append(())
+    if name == "lot" and function.__name__.endswith("doubled"):
+        values += [(0,), (2,), (1, 2), (1, 2, 4)]
     if function in (barriers.pieces_left, barriers.met_pieces) and name in ("lot", "pairing"):
         values = [value for value in values if value != ((0, 3),)]
     if name == "pairing" and function in (ears_odd.ears_along, ears_covered.covered_along):
@@ -230,6 +234,28 @@ class WrongInputs(unittest.TestCase):
             (losses.unfull_without_two, [(9, ((8, 9),))], "InvalidWeb"),
             (losses.unfull_without_two, [NINE], "NotFull"),
             (losses.unfull_without_two, [DENSE], "TooMany"),
+            (joining.joined_webs, [DENSE, (0, ())], "InvalidWeb"),
+            (joining.joined_webs, [DENSE, (1, ())], "TooMany"),
+            (joining.put_in, [DENSE, 0, (0, ())], "InvalidWeb"),
+            (joining.put_in, [DENSE, 0, (2, ())], "TooMany"),
+            (joining.doubled, [DENSE, 0, (0,)], "InvalidLot"),
+            (joining.doubled, [DENSE, 0, (1,)], "TooMany"),
+            (joining.to_doubled, [DENSE, 0, (1,), ((0, 1), (1, 2))], "InvalidPairing"),
+            (joining.to_doubled, [DENSE, 0, (1,), ((0, 1),)], "TooMany"),
+            (joining.from_doubled, [DENSE, 0, (0,), ()], "InvalidLot"),
+            (joining.from_doubled, [DENSE, 0, (1,), ()], "InvalidPairing"),
+            (joining.stretched, [DENSE, (0, 12)], "InvalidTie"),
+            (joining.stretched, [DENSE, (0, 11)], "TooMany"),
+            (joining.to_stretched, [DENSE, (0, 1), None], "InvalidPairing"),
+            (joining.to_stretched, [DENSE, (0, 1), ()], "TooMany"),
+            (joining.from_stretched, [DENSE, (0, 1), ()], "InvalidPairing"),
+            (joining.from_drawn, [PATH, (0, 1), None], "InvalidPairing"),
+            (joining.from_drawn, [PATH, (0, 1), ()], "NotNearFull"),
+            (joining.from_kernel, [PATH, ((0, 1),)], "InvalidPairing"),
+            (paper_texts.paper_text, [STAR, (), (4,)], "InvalidLot"),
+            (paper_texts.paper_text, [STAR, (), ()], "NotMeeting"),
+            (paper_texts.paper_told, ["d:ab;ab,ac;"], "InvalidText"),
+            (paper_texts.paper_told, ["d:ab;;"], "NotMeeting"),
             (greatest.lengthened, [PATH, ((0, 2),), ()], "InvalidPairing"),
             (greatest.lengthened, [PATH, ((0, 1),), ()], "InvalidRow"),
         ]
@@ -254,6 +280,10 @@ class WrongInputs(unittest.TestCase):
             (switches.switch_at, [PATH, ((0, 1),), (0, 1)], "row", (2, 3)),
             (webs.web_told, [7], "index", 0),
             (heaviest.pricing, [NINE, (1,) * 9], "count", 8),
+            (joining.joined_webs, [DENSE, (1, ())], "count", 12),
+            (joining.from_drawn, [PATH, (0, 1, 2), ()], "place", 1),
+            (paper_texts.paper_told, ["d:ab;;"], "count", 2),
+            (paper_texts.paper_told, ["d:ab;ab,ac;"], "index", 8),
             (losses.least_loss, [(12, ())], "count", 8),
             (losses.unextended, [STAR, 2], "lot", (0,)),
             (losses.unfull_without_two, [STAR], "lot", (0,)),
