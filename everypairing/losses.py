@@ -177,11 +177,12 @@ def _best_parts(inside, mask, many, known):
 
 def _odd_parts(mask, most):
     """The list of the masks of an odd number of places, at most so many, with the least one."""
-    places = places_in(mask)
+    first = (mask & -mask).bit_length() - 1
+    others = list(places_in(mask - (1 << first)))
     found = []
     for size in range(0, most, 2):
-        for added in combinations(places[1:], size):
-            found.append(mask_of(added) | 1 << places[0])
+        for added in combinations(others, size):
+            found.append(mask_of(added) | 1 << first)
     return found
 
 

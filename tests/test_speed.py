@@ -1,9 +1,15 @@
+import random
 import time
 import unittest
 from fractions import Fraction
 
 from tests import functions, plain
+from tests.test_live import call, drawn_deed, outcome
 from everypairing import barriers, ears_odd, errors, greatest, lots, shares_of_ties, switches
+from everypairing.commands import command_of
+from everypairing.console import Console
+from everypairing.live import Live, PinnedLive, replay
+from everypairing.webs import web_text
 
 # "Within some seconds" on a machine that may run other tests at the same time.
 SECONDS = 5
@@ -80,6 +86,56 @@ class Speed(unittest.TestCase):
                     else:
                         self.assertNotIn(name, BOUNDED)
                 self.assertLess(time.monotonic() - start, SECONDS, (function.__name__, web))
+
+
+class LiveSpeed(unittest.TestCase):
+    """Live webs of 11 and 12 places with 60 deeds, and a console with 8 of them."""
+
+    def timed(self, function, *arguments):
+        start = time.monotonic()
+        told = function(*arguments)
+        self.assertLess(time.monotonic() - start, SECONDS, function)
+        return told
+
+    def grown_live(self, kind, web, seed):
+        source = random.Random(seed)
+        live = kind(web)
+        while len(live.deeds) < 60:
+            deed = drawn_deed(live, source, 13)
+            self.timed(outcome, live.would, deed)
+            self.timed(outcome, call, live, deed)
+        return live
+
+    def ask(self, live):
+        self.timed(live.lots)
+        self.timed(live.sizes)
+        for mark in live.marks:
+            self.timed(live.may_leave, mark)
+            for other in live.marks:
+                if other != mark:
+                    self.timed(live.may_pair, mark, other)
+        told = self.timed(replay, live.start, live.deeds) if type(live) is Live else live.twin()
+        self.assertTrue(self.timed(lambda: told == live))
+
+    def test_live_webs(self):
+        for seed, web in enumerate(webs_of(12) + webs_of(11)):
+            live = self.grown_live((Live, PinnedLive)[seed % 2], web, seed)
+            self.ask(live)
+            for _ in range(12):
+                self.timed(live.begin)
+            self.timed(live.drop)
+
+    def test_the_console(self):
+        console = Console()
+        for at, web in enumerate(webs_of(12)):
+            live = self.grown_live(Live, web, at)
+            console.execute(f"web {'abcdefgh'[at]} {web_text(web)}")
+            console.execute("run " + "; ".join([command_of(deed) for deed in live.deeds]))
+        questions = "show marks pairing alone lots sizes pins where paper journal same twin".split()
+        for word in questions:
+            command = word + (" a" if word in ("same", "twin") else "")
+            self.timed(console.execute, "run " + "; ".join([command] * 64))
+        self.timed(outcome, console.execute, "run " + "; ".join(["begin"] * 63 + ["use zzz"]))
 
 
 NONE, RING, ALL = plain.untied(12), plain.ring(12), plain.all_tied(12)
