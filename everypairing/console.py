@@ -149,8 +149,7 @@ def _sizes(live, values):
 
 def _row(live, values):
     """The row of a deed."""
-    row = live.row(values[0])
-    return NOTHING if row is None else _joined("-", row)
+    return _joined("-", live.row(values[0]) or ())
 
 
 def _may(live, values):

@@ -218,8 +218,7 @@ def _row_to_pair(near, mask, mates, tie):
     if row is None:
         row = grown(near, rest, left, mates[y])[0]
         return None if row is None else (mates[x], x, y) + row
-    if row[-1] == mates[y]:
-        return (x,) + row + (y, x)
+    # It may end at the other mate, and is a round then.
     return (mates[y], y, x) + row
 
 

@@ -251,12 +251,12 @@ def _led_back(web, step, pairing):
         ties.append(tie_of(step[1], step[2]))
     elif step[0] == "drawn":
         _, x, y, z = step
-        # The neighbours of x are y and z alone, so a mate of the three is tied with one of these.
-        if mate is not None and tie_of(mate, y) not in web[1]:
-            y, z = z, y
-        ties.append(tie_of(x, y) if mate is None else tie_of(x, z))
         if mate is not None:
+            # The neighbours of x are y and z alone, so a mate of the three is tied with one of them.
+            if tie_of(mate, y) not in web[1]:
+                y, z = z, y
             ties.append(tie_of(mate, y))
+        ties.append(tie_of(x, z))
     return tuple(sorted(ties))
 
 

@@ -273,7 +273,7 @@ run|run |web|web a|web a |web a b: |web  a b:|web A b:|web a1 b:|web abcdefghi b
 pinned a|pinned|use|use |use A|use a b|use 1|twin|twin a b|forget|same|same a b|come |come a|come 00|come 01
 come 0  1|come  0|come 12345|come -1|come +1|come 0,1|leave|leave 0 1|leave a|leave 00|tie 0|tie 0 1 2|tie 0 a
 untie 0|stretch 0|stretch|double|double |double a|double 0 00|choose 0|choose 0 1 2|release|release 0 1
-pin 0|unpin 0|pin 0 1 2|undo 1|undo |begin 0|keep a|drop x|show 0|show a|marks 0|pairing 0|alone 1|lots 0
+pin 0|unpin 0|pin 0 1 2|unpin 0 1 2|untie 0 1 2|stretch 0 1 2|keep 0|drop 0|journal 0|paper 0|undo 1|undo |begin 0|keep a|drop x|show 0|show a|marks 0|pairing 0|alone 1|lots 0
 sizes 0|row|row 0 1|row a|row 00|may|may 0 1 2|may a|may 00|pins 0|where 0|paper 0|journal a| show|show 
 Show|SHOW|shows|help||  |show;|show; marks|show ;|run show;|run show; |run  show|run show ; show|run show;show
 run run show|run show; run show|run show;  show|run ; show|run show; ; show|run x|run show; x|run show, show|;

@@ -112,6 +112,12 @@ class Game(unittest.TestCase):
                 self.assertEqual(bool(moves), mover_wins(web, walk))
                 for x in going_on(web, walk):
                     self.assertEqual(x in moves, not mover_wins(web, walk + (x,)))
+                # M2
+                left_alone = ()
+                if len(places) > 1:
+                    others = tuple(x for x in places if x != walk[-1])
+                    left_alone = [others[x] for x in lots(plain.inner(web, others))[0]]
+                self.assertEqual(moves, [x for x in going_on(web, walk) if x in left_alone])
                 # M3
                 mate = plain.mate(guide(web, walk), walk[-1])
                 self.assertEqual(mate is not None, mover_wins(web, walk))

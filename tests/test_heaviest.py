@@ -171,6 +171,20 @@ class Pricings(unittest.TestCase):
                 if right:
                     self.assertGreaterEqual(pricing_cost(web, weights, value), most)
 
+    def test_pricings_of_large_webs(self):
+        # L1, by the dearest tie of each place and by the lot of all places
+        for web, weights in cases(plain.large_webs(many=1), 7):
+            most = heaviest(web, weights)[0]
+            prices = [0] * web[0]
+            for (x, y), heavy in sorted(zip(web[1], weights), key=lambda row: -row[1]):
+                if prices[x] + prices[y] < heavy:
+                    prices[x] = heavy - prices[y]
+            found = [(tuple(prices), [])]
+            if web[0] % 2 and max(weights, default=0):
+                found.append(((0,) * web[0], [(tuple(range(web[0])), max(weights))]))
+            for value in found:
+                self.assertGreaterEqual(pricing_cost(web, weights, value), most)
+
     def test_what_shows_both_to_be_right(self):
         # L2
         for web, weights in cases(plain.chance_webs(6, 15), 6):

@@ -218,6 +218,10 @@ class Joined(unittest.TestCase):
             self.assertEqual(self.raised(TooMany, put_in, (n, ()), 0, (m, ())).count, 12)
         self.assertEqual(stretched(plain.line(10), (0, 1))[0], 12)
         self.assertEqual(doubled(plain.line(10), 0, ())[0], 12)
+        self.assertEqual(to_stretched(plain.line(10), (0, 1), ()), ((10, 11),))
+        self.assertEqual(from_stretched(plain.line(10), (0, 1), ((10, 11),)), ())
+        self.assertEqual(to_doubled(plain.line(10), 1, (0, 2), ((0, 1),)), ((0, 10), (1, 11)))
+        self.assertEqual(from_doubled(plain.line(10), 1, (0, 2), ((0, 10), (1, 11))), ((0, 1),))
         for n in (11, 12):
             web = plain.line(n)
             self.assertEqual(self.raised(TooMany, stretched, web, (0, 1)).count, 12)

@@ -499,7 +499,7 @@ class Errors(unittest.TestCase):
             wrong = [(), ("come",), ("come", (), ()), ("leave",), ("leave", 0, 1), ("tie", 0),
                      ("tie", 0, 1, 2), ["leave", 0], ("Leave", 0), ("undo",), ("begin",), ("twin",),
                      ("row", 0), ("sizes",), ("would", ("leave", 0)), ("act", ("leave", 0)), (0, 1),
-                     ("", 0), (None, 0), (("leave",), 0), (b"leave", 0), ("leave ", 0), "leave"]
+                     ("", 0), (None, 0), (("leave",), 0), (["leave"], 0), ([], 0), ({}, 0), (b"leave", 0), ("leave ", 0), "leave"]
             wrong += plain.wrong_in([("leave", 0)])
             if kind is Live:
                 wrong += [("pin", 0, 1), ("unpin", 0, 1), ("pin", None, None)]
@@ -671,7 +671,9 @@ class Twins(unittest.TestCase):
         self.assertFalse(pins == live)
         self.assertTrue(live != pins)
         self.assertTrue(live == Live(web) and pins == PinnedLive(web))
-        for value in [None, 0, web, (), [], "", (web, []), object(), live.deeds]:
+        # Another class that only has the name.
+        other_kind = type("Live", (), {"start": web, "deeds": []})
+        for value in [None, 0, web, (), [], "", (web, []), object(), live.deeds, other_kind()]:
             self.assertIs(live == value, False)
             self.assertIs(live != value, True)
         self.assertFalse(Live(plain.line(3)) == live)

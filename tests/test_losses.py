@@ -204,6 +204,13 @@ class Losses(unittest.TestCase):
             self.check_least(web, many)
             self.assertEqual(many, min(many, cut_number(web)))
 
+    def test_a_lot_that_parts_what_is_tied_within(self):
+        # Without the place 0 two triangles and the place 7 are left; two ties lead between them.
+        ties = [(0, x) for x in range(1, 8)] + [(1, 2), (1, 3), (2, 3), (4, 5), (4, 6), (5, 6)]
+        web = (8, tuple(sorted(ties + [(1, 7), (4, 7)])))
+        self.assertEqual(least_number(web), 2)
+        self.assertEqual(least_loss(web), (((1, 7), (4, 7)), (0,)))
+
     def test_lost_and_what_shows_it(self):
         source = random.Random(6)
         for web in small():
