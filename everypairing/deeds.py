@@ -83,7 +83,7 @@ def _leave(state, mark):
         raise Refused("no place would be left")
     left = inner(web, tuple([place for place in range(web[0]) if place != gone]))
     marks = tuple([other for other in there if other != mark])
-    pairing = tuple([pair for pair in pairing if mark not in pair])
+    pairing = _without_mark(pairing, mark)
     return _settled((left, marks, next_mark, pairing, _without_mark(pins, mark)), None)
 
 
@@ -101,9 +101,8 @@ def _untie(state, mark, other_mark):
     web, there, next_mark, pairing, pins = state
     tie = _tie_there(state, mark, other_mark)
     gone = tie_of(mark, other_mark)
-    pairing = tuple([pair for pair in pairing if pair != gone])
-    pins = tuple([pair for pair in pins if pair != gone])
-    return _settled((less_tie(web, tie), there, next_mark, pairing, pins), None)
+    pairing = _without_pair(pairing, gone)
+    return _settled((less_tie(web, tie), there, next_mark, pairing, _without_pair(pins, gone)), None)
 
 
 def _stretch(state, mark, other_mark):
@@ -113,7 +112,7 @@ def _stretch(state, mark, other_mark):
     longer = stretched(web, tie)
     marks = there + (next_mark, next_mark + 1)
     pairing = _in_marks(marks, to_stretched(web, tie, _in_places(there, pairing)))
-    pins = tuple([pair for pair in pins if pair != tie_of(mark, other_mark)])
+    pins = _without_pair(pins, tie_of(mark, other_mark))
     return _settled((longer, marks, next_mark + 2, pairing, pins), marks[-2:])
 
 
@@ -168,8 +167,7 @@ def _unpin(state, mark, other_mark):
     gone = tie_of(mark, other_mark)
     if gone not in pins:
         raise Refused("not pinned")
-    kept = tuple([pair for pair in pins if pair != gone])
-    return ((web, there, next_mark, pairing, kept), (), None)
+    return ((web, there, next_mark, pairing, _without_pair(pins, gone)), (), None)
 
 
 def _settled(state, told):
@@ -239,6 +237,11 @@ def _free_mask(state):
 def _without_mark(pairs, mark):
     """The tuple of the pairs that do not have the mark."""
     return tuple([pair for pair in pairs if mark not in pair])
+
+
+def _without_pair(pairs, gone):
+    """The tuple of the other pairs."""
+    return tuple([pair for pair in pairs if pair != gone])
 
 
 def _other_end(pair, mark):
